@@ -1,0 +1,1 @@
+"""Wirebeats: arrays of processors made from a direction."""

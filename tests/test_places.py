@@ -214,6 +214,12 @@ class Certificates(Case):
                 for matrix in (((1, -1),), ((1, 0, -1), (0, 1, -1))):
                     self.raises(BadDirection, {"direction": value}, rows_certificate, value, matrix)
                     self.raises(BadDirection, {"direction": value}, rows_certificate_holds, value, matrix, None)
+        # It is raised first, whatever rows or a matrix are.
+        value = (2, 4)
+        for matrix in ODD:
+            self.raises(BadDirection, {"direction": value}, rows_certificate, value, matrix)
+            self.raises(BadDirection, {"direction": value}, rows_certificate_holds, value, matrix, None)
+            self.raises(BadDirection, {"direction": value}, first_at, (3, 2), value, matrix, None)
         for direction, matrix in (((1, 1, 1), ((1, -1),)), ((1, 1), ((1, 0, -1), (0, 1, -1)))):
             self.raises(BadDirection, {"direction": direction}, rows_certificate, direction, matrix)
             self.raises(BadDirection, {"direction": direction}, rows_certificate_holds, direction, matrix, ("moved", 0))
@@ -334,6 +340,10 @@ class Changes(Case):
         self.raises(Unlike, {}, change_of, ((1, -1),), ((2, -2),))
         self.raises(Unlike, {}, change_of, ((1, -1),), ((0, 0),))
         self.same(ask(change_of, ((1, -1),), ((-1, 1),)), ((-1,),))
+
+    def test_no_matrices(self):
+        for value in ODD + (((True, -1),), ([1, -1],), ((1, -1), (1, -1)), ((1, -1, 0),), ((1,),), [(1, -1)]):
+            self.raises(Unlike, {}, change_of, ((1, -1),), value)
 
     def test_great_items(self):
         rows = ((1, 0, -1), (0, 1, -1))

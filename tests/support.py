@@ -26,6 +26,14 @@ def outcome(function, args):
         return (None, error)
 
 
+def listed(generator):
+    """The function that lists what a generator yields."""
+    def run(*args):
+        return list(generator(*args))
+    run.__name__ = generator.__name__
+    return run
+
+
 def told(error):
     return None if error is None else (error.__class__.__name__, error.__dict__)
 
@@ -134,11 +142,11 @@ def some_flows(seed, many, most_planes=6):
     return [some_flow(rng, 2 + at % 2, 1 + at % most_planes) for at in range(many)]
 
 
-def served(rng, dims, planes):
+def served(rng, dims, planes, weights=None, most=2, late=50):
     """A flow and beats of it: the starts may be of any kind, the distances are such that no delay is below 1."""
     while True:
-        flow = some_flow(rng, dims, planes, 2)
-        timing = (some_vector(rng, dims, 20), tuple(rng.randint(-50, 50) for _ in range(planes)))
+        flow = some_flow(rng, dims, planes, most)
+        timing = (weights or some_vector(rng, dims, 20), tuple(rng.randint(-late, late) for _ in range(planes)))
         rules = []
         for plane, rule in enumerate(flow[1]):
             reads = [forward(timing, plane, read) for read in rule[1:]]

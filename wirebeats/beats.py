@@ -1,7 +1,7 @@
 """Beats: at which beat each plane makes its word at each point."""
 
 from wirebeats.bounds import MAX_START, MAX_WEIGHT
-from wirebeats.errors import NoPlane, NoPoint
+from wirebeats.errors import BadWeights, NoPlane, NoPoint
 from wirebeats.flows import is_plane
 from wirebeats.vectors import dot, is_tuple_of, is_vector, is_within
 
@@ -13,6 +13,12 @@ def weights_error(dims, value):
         if not is_within(weight, -MAX_WEIGHT, MAX_WEIGHT):
             return (index, "weight")
     return None
+
+
+def check_weights(dims, weights):
+    """Raise BadWeights if these are no weights for the dimensions."""
+    if weights_error(dims, weights) is not None:
+        raise BadWeights(weights)
 
 
 def starts_error(planes, value):

@@ -52,7 +52,7 @@ def point_at(box, index):
         raise NoIndex(index)
     items = []
     rest = index
-    for size in reversed(box):
+    for size in reversed(list(box)):
         items = [rest % size] + items
         rest = rest // size
     return tuple(items)

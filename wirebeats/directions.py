@@ -19,6 +19,12 @@ def is_direction(dims, value):
     return is_bounded(dims, value, MAX_DIST) and common_divisor(value) == 1
 
 
+def check_direction(dims, direction):
+    """Raise BadDirection if this is no direction for the dimensions."""
+    if not is_direction(dims, direction):
+        raise BadDirection(direction)
+
+
 def is_some_direction(value):
     """Whether value is a direction of two or of three dimensions."""
     return is_direction(2, value) or is_direction(3, value)
@@ -33,8 +39,7 @@ def directions(dims, most):
 
 def period(weights, direction):
     """The number of beats from one point of a line to the next one."""
-    if not is_direction(len(weights), direction):
-        raise BadDirection(direction)
+    check_direction(len(weights), direction)
     return abs(dot(weights, direction))
 
 

@@ -2,7 +2,7 @@
 
 from wirebeats.bounds import MAX_DIST, MAX_PLANES
 from wirebeats.errors import NoPlane, OtherDims, TooMany
-from wirebeats.vectors import is_bounded, is_tuple_of, is_within
+from wirebeats.vectors import is_bounded, is_integer, is_tuple_of, is_vector, is_within
 
 KINDS = {"copy": 1, "neg": 1, "add": 2, "sub": 2, "mul": 2, "least": 2, "most": 2, "madd": 3}
 
@@ -32,6 +32,17 @@ def read_error(dims, planes, value):
     return None
 
 
+def rule_error(dims, planes, value):
+    """The first error of a rule whose reads may be of so many planes, with its operand, or None."""
+    if not has_form(value):
+        return (None, "rule")
+    for operand, read in enumerate(value[1:]):
+        word = read_error(dims, planes, read)
+        if word is not None:
+            return (operand, word)
+    return None
+
+
 def flow_error(value):
     """The first reason why value is no flow, or None."""
     if not is_tuple_of(2, value):
@@ -42,12 +53,10 @@ def flow_error(value):
     if not are_rules(rules):
         return (None, "rules")
     for plane, rule in enumerate(rules):
-        if not has_form(rule):
-            return (plane, "rule")
-        for operand, read in enumerate(rule[1:]):
-            word = read_error(dims, len(rules), read)
-            if word is not None:
-                return ((plane, operand), word)
+        error = rule_error(dims, len(rules), rule)
+        if error is not None:
+            operand, word = error
+            return (plane if operand is None else (plane, operand), word)
     return None
 
 
@@ -57,6 +66,14 @@ def is_flow(value):
 
 def is_plane(flow, value):
     return is_within(value, 0, len(flow[1]) - 1)
+
+
+def has_rule(rules, value):
+    """Whether value is one of the rules, without bools in the place of integers."""
+    if value not in rules:
+        return False
+    # What is equal to a rule has its form, so only bools can be wrong in it.
+    return all([is_integer(source) and is_vector(len(distance), distance) for source, distance in value[1:]])
 
 
 def reads_of(flow):

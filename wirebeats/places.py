@@ -2,7 +2,7 @@
 
 from math import gcd
 
-from wirebeats.directions import is_direction, is_some_direction
+from wirebeats.directions import check_direction, is_some_direction
 from wirebeats.errors import BadDirection, NoPlace, NoPoint, Unlike
 from wirebeats.vectors import combined, determinant, dot, image, is_far, is_integer, is_tuple_of, is_vector
 from wirebeats.vectors import is_within, moved_by, steps_inside, unit_vectors
@@ -164,8 +164,7 @@ def check_place(rows, place):
 
 def first_at(box, direction, rows, place):
     """The first point, in the box, of the line with this place, or None."""
-    if not is_direction(len(box), direction):
-        raise BadDirection(direction)
+    check_direction(len(box), direction)
     check_rows(direction, rows)
     check_place(rows, place)
     point = combined(place, lift_of(rows))

@@ -1,0 +1,192 @@
+"""Promise 18: starts."""
+
+import itertools
+import random
+import unittest
+
+from support import ODD, Case, all_vectors, ask, damaged, dot, is_int, some_flow, some_vector
+from test_ways import are_ways, plain_rings, reads, source
+
+from wirebeats.beats import beats_error
+from wirebeats.errors import BadWeights
+from wirebeats.starts import find_starts, starts_hold
+
+G = (2, (("copy", (1, (0, 0))), ("neg", (0, (1, 0)))))
+F = (2, (("add", (0, (1, 0)), (0, (0, 1))),))
+
+
+def gain(flow, weights, read):
+    return dot(weights, flow[1][read[0]][read[1] + 1][1])
+
+
+def need(flow, weights, way):
+    return sum(1 - gain(flow, weights, read) for read in way)
+
+
+def least(flow, weights):
+    """The least starts by the needs of all ways without a plane twice, which are enough if there are starts."""
+    planes = len(flow[1])
+    starts = [0] * planes
+    for many in range(2, planes + 1):
+        for order in itertools.permutations(range(planes), many):
+            total = 0
+            for before, plane in zip(order, order[1:]):
+                needs = [1 - gain(flow, weights, read) for read in reads(flow) if read[0] == plane and source(flow, read) == before]
+                if not needs:
+                    break
+                total += max(needs)
+            else:
+                starts[order[-1]] = max(starts[order[-1]], total)
+    return tuple(starts)
+
+
+def some_cases(seed, many):
+    rng = random.Random(seed)
+    for at in range(many):
+        most = rng.choice((1, 2, 4))
+        flow = some_flow(rng, 2 + at % 2, 1 + at % 6, most)
+        if at % 4:
+            # Sources further ahead and distances with items from 0 on leave more weights with starts.
+            rules = [(rule[0], *[(min(q, k) if at % 8 < 5 else q, tuple(map(abs, d))) for q, d in rule[1:]])
+                     for k, rule in enumerate(flow[1])]
+            flow = (flow[0], tuple(rules))
+        weights = some_vector(rng, flow[0], rng.choice((1, 5, 60)))
+        yield rng, flow, weights if at % 3 else tuple(map(abs, weights))
+
+
+class FindStarts(Case):
+    def check(self, flow, weights):
+        word, told = found = ask(find_starts, flow, weights)
+        bad = [ring for ring in plain_rings(flow) if need(flow, weights, ring) > 0]
+        if bad:
+            self.assertEqual(word, "ring")
+            self.assertIn(told, bad)
+            self.assertTrue(are_ways(flow, told)[1])
+        else:
+            self.same(found, ("starts", least(flow, weights)), flow, weights)
+            self.assertIsNone(beats_error(flow, (weights, told)))
+        self.assertIs(ask(starts_hold, flow, weights, found), True)
+        return not bad
+
+    def test_least_starts_or_a_ring(self):
+        served = {}
+        for _, flow, weights in some_cases(111, 400):
+            right = self.check(flow, weights)
+            served.setdefault(len(flow[1]), []).append(right)
+        for planes in range(1, 7):
+            self.assertGreater(served[planes].count(True), 5, planes)
+            self.assertGreater(served[planes].count(False), 5, planes)
+
+    def test_all_weights_of_small_flows(self):
+        for flow in (G, F, (2, (("sub", (0, (1, -1)), (0, (2, -1))),))):
+            right = [self.check(flow, weights) for weights in all_vectors(2, 3)]
+            self.assertEqual(set(right), {True, False})
+
+    def test_none_is_smaller(self):
+        for _, flow, weights in some_cases(112, 200):
+            word, starts = find_starts(flow, weights)
+            if word == "starts":
+                for plane in range(len(starts)):
+                    lower = starts[:plane] + (starts[plane] - 1,) + starts[plane + 1:]
+                    self.assertTrue(lower[plane] < 0 or beats_error(flow, (weights, lower)))
+
+    def test_long_ways(self):
+        rules = (("copy", (0, (1, 0))),) + tuple(("copy", (k, (-4, -4))) for k in range(5))
+        self.same(ask(find_starts, (2, rules), (60, 60)), ("starts", (0, 481, 962, 1443, 1924, 2405)))
+        self.same(ask(find_starts, (2, rules), (0, 60)), ("ring", ((0, 0),)))
+        back = tuple(("copy", (min(k + 1, 5), (-4, -4) if k < 5 else (0, 1))) for k in range(6))
+        self.same(ask(find_starts, (2, back), (60, 60)), ("starts", (2405, 1924, 1443, 962, 481, 0)))
+        deep = (3, (("copy", (0, (4, 4, 4))),) + tuple(("copy", (k, (-4, -4, -4))) for k in range(5)))
+        self.same(ask(find_starts, deep, (60, 60, 60)), ("starts", (0, 721, 1442, 2163, 2884, 3605)))
+
+    def test_ring_that_just_serves(self):
+        six = tuple(("copy", ((k - 1) % 6, (1, 0) if k < 5 else (1, 1))) for k in range(6))
+        self.same(ask(find_starts, (2, six), (1, 0)), ("starts", (0, 0, 0, 0, 0, 0)))
+        self.same(ask(find_starts, (2, six), (1, -1)), ("ring", tuple((k, 0) for k in range(6))))
+        self.same(ask(find_starts, (2, six), (0, 6)), ("starts", (1, 2, 3, 4, 5, 0)))
+        self.same(ask(find_starts, (2, six), (0, 5)), ("ring", tuple((k, 0) for k in range(6))))
+
+
+class StartsHold(Case):
+    def test_other_starts(self):
+        for rng, flow, weights in some_cases(113, 200):
+            word, starts = find_starts(flow, weights)
+            if word == "ring":
+                starts = tuple(rng.randint(-5, 5) for _ in flow[1])
+            for late in (0, 1, -1, 10000 - max(starts), 10001 - max(starts), -10000 - min(starts), -10001 - min(starts)):
+                value = tuple(start + late for start in starts)
+                self.assertIs(ask(starts_hold, flow, weights, ("starts", value)), beats_error(flow, (weights, value)) is None)
+            for _ in range(10):
+                value = tuple(start + rng.randint(-2, 2) for start in starts)
+                self.assertIs(ask(starts_hold, flow, weights, ("starts", value)), beats_error(flow, (weights, value)) is None)
+
+    def test_bounds(self):
+        for starts, right in (((10000, 10000), False), ((10000, 9999), True), ((10001, 10000), False), ((-9999, -10000), True),
+                              ((-10000, -10001), False), ((10000, -10000), False), ((10000, 9998), True), ((10000, 9997), False)):
+            self.assertIs(ask(starts_hold, G, (3, 0), ("starts", starts)), right)
+
+    def test_rings_plain_and_others(self):
+        counts = {True: 0, False: 0}
+        for rng, flow, weights in some_cases(114, 200):
+            rings = plain_rings(flow)
+            values = list(rings[:20])
+            for ring in rings[:20]:
+                values += [ring * 2, ring * 7, ring[1:] + ring[:1], ring[:-1]]
+                values += [ring + other for other in rings[:5]]
+            for value in values:
+                right = are_ways(flow, value)[1] and need(flow, weights, value) > 0
+                counts[right] += 1
+                self.assertIs(ask(starts_hold, flow, weights, ("ring", value)), right)
+        self.assertGreater(min(counts.values()), 300)
+        two = (2, (("add", (0, (1, 0)), (1, (0, 0))), ("add", (0, (0, 0)), (1, (1, 0)))))
+        # A ring that meets each plane twice, of which the first part alone bars nothing.
+        self.assertIs(ask(starts_hold, two, (3, 0), ("ring", ((0, 0), (1, 0), (1, 1), (0, 1)))), False)
+        self.assertIs(ask(starts_hold, two, (1, 0), ("ring", ((0, 0), (1, 0), (1, 1), (0, 1)))), True)
+        self.assertIs(ask(starts_hold, two, (1, 0), ("ring", ((0, 0),))), False)
+
+    def test_bent_values(self):
+        rng = random.Random(115)
+        counts = {True: 0, False: 0}
+        for _, flow, weights in some_cases(116, 120):
+            found = find_starts(flow, weights)
+            for value in damaged(rng, found, 25):
+                right = False
+                if type(value) is tuple and len(value) == 2 and type(value[0]) is str:
+                    if value[0] == "starts":
+                        right = beats_error(flow, (weights, value[1])) is None
+                    elif value[0] == "ring":
+                        right = are_ways(flow, value[1])[1] and need(flow, weights, value[1]) > 0
+                counts[right] += 1
+                self.assertIs(ask(starts_hold, flow, weights, value), right)
+        self.assertGreater(min(counts.values()), 100)
+        for value in ODD + (("starts",), ("starts", (1, 0), 0), ["starts", (1, 0)], ("starts", [1, 0]), ("starts", (True, False)),
+                            ("starts", (1, False)), ("start", (1, 0)), ("ring", ()), ("ring", ((0, 0), (1, 0))), ("starts", (1,)),
+                            ("starts", (1, 0, 0)), (("starts", (1, 0)),), ("starts", None), ("ring", None), (1, (1, 0))):
+            self.assertIs(ask(starts_hold, G, (2, 0), value), False)
+        self.assertIs(ask(starts_hold, G, (1, 5), ("ring", ((0, 0), (1, 0)))), True)
+        self.assertIs(ask(starts_hold, G, (1, 5), ("ring", ((1, 0), (0, 0)))), True)
+        self.assertIs(ask(starts_hold, G, (1, 5), ("ring", [(0, 0), (1, 0)])), False)
+        self.assertIs(ask(starts_hold, G, (1, 5), ("ring", ((0, False), (1, 0)))), False)
+        self.assertIs(ask(starts_hold, G, (1, 5), ("starts", ((0, 0), (1, 0)))), False)
+
+
+class Weights(Case):
+    def test_weights_that_are_none(self):
+        rng = random.Random(117)
+        deep = (3, (("neg", (0, (1, 0, 0))),))
+        values = list(ODD) + [(61, 0), (0, -61), (60, 60), (-60, -60), (1, 0, 0), (1,), [1, 0], (True, 0), (1, False), (1, None)]
+        values += damaged(rng, (2, 0), 60) + damaged(rng, (2, 0, -5), 60)
+        for flow in (G, deep):
+            for value in values:
+                right = type(value) is tuple and len(value) == flow[0] and all(is_int(item) and abs(item) <= 60 for item in value)
+                if right:
+                    self.assertIs(ask(starts_hold, flow, value, find_starts(flow, value)), True)
+                    self.assertIs(ask(starts_hold, flow, value, None), False)
+                else:
+                    self.raises(BadWeights, {"vector": value}, find_starts, flow, value)
+                    self.raises(BadWeights, {"vector": value}, starts_hold, flow, value, ("starts", (1, 0)))
+                    self.raises(BadWeights, {"vector": value}, starts_hold, flow, value, None)
+
+
+if __name__ == "__main__":
+    unittest.main()

@@ -1,0 +1,159 @@
+"""Words: what the planes of a flow make at the points of a box, and flows as objects."""
+
+from wirebeats.beats import beat_of, beats_error
+from wirebeats.bounds import MAX_ENTRIES, MAX_SIZE, MODULUS
+from wirebeats.boxes import box_error, is_point, points_of
+from wirebeats.errors import BadBeats, BadBox, BadFlow, BadOutside, NoPlane, NoPoint
+from wirebeats.flows import flow_error, has_rule, is_plane, joined, reads_of
+from wirebeats.flowtexts import flow_text
+from wirebeats.vectors import is_tuple_of, is_within, moved_by
+
+
+def is_beside(box, value):
+    """Whether value is a vector near the box, as an entry may have it, but no point of it."""
+    if not is_tuple_of(len(box), value) or is_point(box, value):
+        return False
+    return all([is_within(item, -MAX_SIZE, MAX_SIZE + size - 1) for item, size in zip(value, box)])
+
+
+def entry_error(flow, box, value):
+    """The word for what is wrong with an entry by itself, or None."""
+    if not is_tuple_of(3, value):
+        return "entry"
+    plane, vector, word = value
+    if not is_plane(flow, plane):
+        return "plane"
+    if not is_beside(box, vector):
+        return "vector"
+    if not is_within(word, 0, MODULUS - 1):
+        return "word"
+    return None
+
+
+def outside_error(flow, box, value):
+    """The first reason why value is no outside of the flow and the box, or None."""
+    if not isinstance(value, tuple) or len(value) > MAX_ENTRIES:
+        return (None, "outside")
+    for index, entry in enumerate(value):
+        word = entry_error(flow, box, entry)
+        if word is None and index > 0 and entry[:2] <= value[index - 1][:2]:
+            word = "order"
+        if word is not None:
+            return (index, word)
+    return None
+
+
+def check_outside(flow, box, outside):
+    """Raise BadOutside if this is no outside of the flow and the box."""
+    error = outside_error(flow, box, outside)
+    if error is not None:
+        raise BadOutside(error)
+
+
+def word_made(kind, words):
+    """What a rule of this kind makes of the words of its operands."""
+    first = words[0]
+    last = words[-1]
+    if kind == "copy":
+        return first
+    if kind == "least":
+        return min(first, last)
+    if kind == "most":
+        return max(first, last)
+    if kind == "neg":
+        number = -first
+    elif kind == "add":
+        number = first + last
+    elif kind == "sub":
+        number = first - last
+    elif kind == "mul":
+        number = first * last
+    else:
+        number = first + words[1] * last
+    return number % MODULUS
+
+
+def each_word(flow, beats, box, outside):
+    """Yield (beat, plane, point, word) for all words of a small box, ascending."""
+    points = points_of(box)
+    check_outside(flow, box, outside)
+    words = {(plane, vector): word for plane, vector, word in outside}
+    planes = range(len(flow[1]))
+    order = sorted([(beat_of(flow, beats, plane, point), plane, point) for plane in planes for point in points])
+    for beat, plane, point in order:
+        rule = flow[1][plane]
+        # Every delay is at least 1, so what is read within the box has been made before.
+        operands = [words.get((source, moved_by(point, -1, distance)), 0) for source, distance in rule[1:]]
+        word = word_made(rule[0], operands)
+        words[(plane, point)] = word
+        yield (beat, plane, point, word)
+
+
+def words_of(flow, beats, box, outside):
+    """For each plane, the tuple of the words at all points of a small box, ascending by points."""
+    words = {}
+    for _, plane, point, word in each_word(flow, beats, box, outside):
+        words[(plane, point)] = word
+    points = points_of(box)
+    return tuple([tuple([words[(plane, point)] for point in points]) for plane in range(len(flow[1]))])
+
+
+def word_at(flow, beats, box, outside, plane, point):
+    """The word of a plane at a point of a small box."""
+    points = points_of(box)
+    check_outside(flow, box, outside)
+    if not is_plane(flow, plane):
+        raise NoPlane(plane)
+    if not is_point(box, point):
+        raise NoPoint(point)
+    return words_of(flow, beats, box, outside)[plane][points.index(point)]
+
+
+class Flow:
+    """A flow as an object, which never changes."""
+
+    def __init__(self, value):
+        error = flow_error(value)
+        if error is not None:
+            raise BadFlow(error)
+        self.value = value
+        self.dims = value[0]
+        self.rules = value[1]
+        self.reads = reads_of(value)
+
+    @classmethod
+    def of(cls, dims, *rules):
+        return cls((dims, rules))
+
+    def __getitem__(self, plane):
+        if not is_plane(self.value, plane):
+            raise NoPlane(plane)
+        return self.rules[plane]
+
+    def __iter__(self):
+        raise TypeError("a Flow is not looped over")
+
+    def __contains__(self, value):
+        return has_rule(self.rules, value)
+
+    def __len__(self):
+        return len(self.rules)
+
+    def __str__(self):
+        return str(flow_text(self.value))
+
+    def __call__(self, beats, box, outside):
+        """The words of a box."""
+        error = beats_error(self.value, beats)
+        if error is not None:
+            raise BadBeats(error)
+        error = box_error(self.dims, box)
+        if error is not None:
+            raise BadBox(error)
+        return words_of(self.value, beats, box, outside)
+
+    def __add__(self, other):
+        return Flow(joined(self.value, other.value))
+
+    def __eq__(self, other):
+        return isinstance(other, Flow) and self.value == other.value

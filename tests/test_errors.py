@@ -30,21 +30,48 @@ LIMITS = {
 }
 
 INTERFACE = {
+    "alike": ["moved(array, matrix, lags)", "find_change(one, other)", "change_holds(one, other, value)"],
     "arrays": ["array_error(value)", "is_array(value)", "array_of(flow, beats, direction, rows)", "gains(array)",
                "parts(array)", "read_back(array, rows, weights)", "flow_holds(array, rows, weights, value)"],
     "beats": ["beats_error(flow, value)", "delays_of(flow, timing)", "beat_of(flow, timing, plane, point)"],
+    "borders": ["from_outside(box, direction, point, distance)", "count_outside(flow, box, plane)"],
     "boxes": ["box_error(dims, value)", "points_of(box)", "point_index(box, point)", "point_at(box, index)"],
+    "counts": ["count_lines(box, direction)", "longest_line(box, direction)", "count_long(box, direction, many)",
+               "fewest_lines(box, weights, most)", "count_at(box, weights, beat)"],
     "directions": ["is_direction(dims, value)", "directions(dims, most)", "period(weights, direction)",
                    "between(point, other)"],
     "flows": ["flow_error(value)", "is_flow(value)", "reads_of(flow)", "readers_of(flow, plane)",
               "needed(flow, *planes)", "joined(flow, *flows)"],
     "flowtexts": ["vector_text(vector)", "numbers_text(numbers)", "rule_text(rule)", "flow_text(flow)",
                   "parse_flow(value)", "beats_text(beats)"],
+    "jobs": ["meeting(weights, direction, one, other)", "meeting_holds(weights, direction, one, other, value)",
+             "gap_serves(weights, direction, box, gap, many)", "next_gap(weights, direction, box, number)",
+             "free_begin(weights, direction, corner, box, jobs, begin)"],
+    "lines": ["line_through(box, direction, point)", "steps_between(direction, point, other)",
+              "line_index(box, direction, point)", "line_at(box, direction, index)", "each_line(box, direction)"],
     "places": ["canonical_rows(direction)", "rows_certificate(direction, matrix)",
                "rows_certificate_holds(direction, matrix, value)", "place_of(rows, point)",
                "first_at(box, direction, rows, place)", "change_of(rows, other)"],
     "remainders": ["remainders(weights, direction, rows)", "works_at(weights, direction, rows, place, beat)",
                    "next_beat(weights, direction, rows, place, beat)"],
+    "runs": ["field_of(box, weights, direction, rows)", "feeds_of(outside, beats, rows)", "run(array, field, feeds)",
+             "state_at(array, field, feeds, beat)", "go_on(array, field, feeds, state, beat)"],
+    "starts": ["find_starts(flow, weights)", "starts_hold(flow, weights, value)"],
+    "ways": ["is_way(flow, value)", "is_ring(flow, value)", "need_of(flow, weights, way)", "way_to(flow, plane, other)",
+             "rings_of(flow)"],
+    "words": ["outside_error(flow, box, value)", "each_word(flow, beats, box, outside)",
+              "words_of(flow, beats, box, outside)", "word_at(flow, beats, box, outside, plane, point)"],
+}
+
+# For each class its file, its methods as they are called, and its properties.
+CLASSES = {
+    "Flow": ("words", ["Flow(value)", "of(dims, *rules)"], []),
+    "Array": ("alike", ["Array(value)", "of(flow, beats, direction, rows)"], []),
+    "Bench": ("benches", ["Bench(flow, weights, direction)", "put(rule)", "drop()", "change(plane, rule)", "weigh(weights)",
+                          "aim(direction)", "undo()", "edits()", "flow_at(*, version=None)", "weights_at(*, version=None)",
+                          "direction_at(*, version=None)", "starts_at(*, version=None)", "array_at(*, version=None)",
+                          "attempt(batch, *, on_step=None)", "each_version(*, start=0)", "copy()"], ["period"]),
+    "ServedBench": ("benches", ["ServedBench(flow, weights, direction)"], ["starts"]),
 }
 
 
@@ -100,6 +127,30 @@ class Interface(unittest.TestCase):
                 name = written.partition("(")[0]
                 self.assertIn(name, defined)
                 self.assertEqual(name + str(inspect.signature(getattr(found, name))), written)
+
+    def test_classes(self):
+        for name, (module, methods, properties) in CLASSES.items():
+            found = importlib.import_module(f"wirebeats.{module}")
+            kept = getattr(found, name)
+            self.assertEqual(kept.__module__, found.__name__)
+            for written in methods:
+                method = written.partition("(")[0]
+                if method == name:
+                    self.assertIn("__init__", vars(kept))
+                    self.assertEqual(name + str(inspect.signature(kept)), written)
+                    continue
+                self.assertIn(method, vars(kept))
+                told = vars(kept)[method]
+                bound = getattr(kept, method) if isinstance(told, classmethod) else told.__get__(object())
+                self.assertEqual(method + str(inspect.signature(bound)), written)
+            for told in properties:
+                self.assertIsInstance(vars(kept)[told], property)
+                self.assertIsNone(vars(kept)[told].fset)
+
+    def test_bases(self):
+        benches = importlib.import_module("wirebeats.benches")
+        self.assertEqual(benches.ServedBench.__bases__, (benches.Bench,))
+        self.assertEqual((benches.Bench.LIMIT, benches.ServedBench.LIMIT), (60, 60))
 
 
 if __name__ == "__main__":

@@ -21,6 +21,30 @@ EXAMPLES = {
 >>> [box_error(2, (3, 0)), points_of((2, 2)), point_index((10 ** 9, 10 ** 9), (7, 5)), point_at((4, 3, 2), 23)]
 [(1, 'size'), ((0, 0), (0, 1), (1, 0), (1, 1)), 7000000005, (3, 2, 1)]
 """,
+    11: """
+>>> from wirebeats.words import outside_error
+>>> F = (2, (("add", (0, (1, 0)), (0, (0, 1))),))
+>>> [outside_error(F, (2, 3), value) for value in [((0, (-1, 0), 1),), ((0, (1, 0), 1),), ((0, (-1, 0), 1), (0, (-1, 0), 2))]]
+[None, (0, 'vector'), (1, 'order')]
+""",
+    12: """
+>>> from wirebeats.words import word_at, words_of
+>>> F = (2, (("add", (0, (1, 0)), (0, (0, 1))),))
+>>> [words_of(F, ((1, 1), (0,)), (2, 3), ((0, (-1, 0), 1),)), word_at(F, ((2, 1), (0,)), (2, 3), ((0, (-1, 0), 1),), 0, (1, 2))]
+[((1, 1, 1, 1, 2, 3),), 3]
+""",
+    13: """
+>>> from wirebeats.words import each_word
+>>> F = (2, (("add", (0, (1, 0)), (0, (0, 1))),))
+>>> list(each_word(F, ((1, 1), (0,)), (2, 3), ((0, (-1, 0), 1),)))[1:3]
+[(1, 0, (0, 1), 1), (1, 0, (1, 0), 1)]
+""",
+    14: """
+>>> from wirebeats.words import Flow
+>>> one = Flow.of(2, ("neg", (0, (1, 0))))
+>>> [one.reads, len(one + one), (one + one)[1], ("neg", (0, (1, 0))) in one, one(((1, 0), (0,)), (2, 1), ((0, (-1, 0), 5),))]
+[((0, 0, 0, (1, 0)),), 2, ('neg', (1, (1, 0))), True, ((65516, 5),)]
+""",
     16: """
 >>> from wirebeats.beats import beat_of, beats_error, delays_of
 >>> F = (2, (("add", (0, (1, 0)), (0, (0, 1))),))
@@ -30,10 +54,46 @@ EXAMPLES = {
 >>> [delays_of(G, ((2, 0), (0, 0))), beat_of(G, ((2, 0), (1, 0)), 0, (3, -5))]
 [((0,), (2,)), 7]
 """,
+    17: """
+>>> from wirebeats.ways import is_ring, is_way, need_of, rings_of, way_to
+>>> G = (2, (("copy", (1, (0, 0))), ("neg", (0, (1, 0)))))
+>>> [is_way(G, ((1, 0), (0, 0))), is_ring(G, ((0, 0),)), need_of(G, (1, 5), ((0, 0), (1, 0)))]
+[True, False, 1]
+>>> [way_to(G, 1, 0), way_to(G, 0, 0), rings_of(G)]
+[((0, 0),), (), (((0, 0), (1, 0)),)]
+""",
+    18: """
+>>> from wirebeats.starts import find_starts, starts_hold
+>>> G = (2, (("copy", (1, (0, 0))), ("neg", (0, (1, 0)))))
+>>> [find_starts(G, (2, 0)), find_starts(G, (1, 5)), starts_hold(G, (2, 0), ("starts", (-3, -4)))]
+[('starts', (1, 0)), ('ring', ((0, 0), (1, 0))), True]
+""",
     26: """
 >>> from wirebeats.directions import between, directions, is_direction, period
 >>> [is_direction(2, (2, -4)), is_direction(2, (1, -4)), directions(2, 1), period((1, 2), (1, -3)), between((0, 0, 1), (2, -4, 1))]
 [False, True, ((0, 1), (1, -1), (1, 0), (1, 1)), 5, ((1, -2, 0), 2)]
+""",
+    27: """
+>>> from wirebeats.lines import each_line, line_through, steps_between
+>>> [line_through((4, 3), (1, -1), (2, 1)), steps_between((1, -1), (5, 0), (2, 3))]
+[((1, 2), 3, 1), -3]
+>>> list(each_line((3, 2), (1, 1)))
+[((0, 0), 2), ((0, 1), 1), ((1, 0), 2), ((2, 0), 1)]
+""",
+    28: """
+>>> from wirebeats.lines import line_at, line_index
+>>> [line_at((10 ** 9, 10 ** 9), (1, 1), 10 ** 9), line_index((10 ** 9, 10 ** 9), (1, 1), (5, 3))]
+[((1, 0), 999999999), 1000000001]
+""",
+    29: """
+>>> from wirebeats.counts import count_lines, count_long, fewest_lines, longest_line
+>>> [count_lines((3, 2), (1, 1)), longest_line((3, 2), (1, 1)), count_long((3, 2), (1, 1), 2), fewest_lines((3, 2), (1, 1), 1)]
+[4, 2, 2, (2, (1, 0))]
+""",
+    30: """
+>>> from wirebeats.counts import count_at
+>>> [count_at((3, 2), (1, 1), 2), count_at((10 ** 9, 10 ** 9), (2, 3), 10 ** 9), count_at((3, 2), (0, 0), 0)]
+[2, 166666667, 6]
 """,
     33: """
 >>> from wirebeats.places import canonical_rows, rows_certificate, rows_certificate_holds
@@ -75,6 +135,44 @@ EXAMPLES = {
 >>> [read_back(A, ((1, -1),), (1, 1)), read_back(A, ((1, -1),), (3, -1))]
 [(2, (('add', (0, (1, 0)), (0, (0, 1))),)), (2, (('add', (0, (0, -1)), (0, (1, 2))),))]
 """,
+    43: """
+>>> from wirebeats.runs import run, state_at
+>>> A = (2, (1,), (0,), (("add", (0, (1,), 1), (0, (-1,), 1)),))
+>>> field, feeds = (((-1,), 1, 1), ((0,), 0, 2), ((1,), 1, 1)), ((0, (-1,), -1, 1),)
+>>> run(A, field, feeds)
+((0, (0,), 0, 1), (1, (-1,), 0, 1), (1, (1,), 0, 1), (2, (0,), 0, 2))
+>>> state_at(A, field, feeds, 0)
+((0, (0,), 0, 1),)
+""",
+    45: """
+>>> from wirebeats.alike import change_holds, find_change
+>>> A = (2, (1,), (0,), (("add", (0, (1,), 1), (0, (-1,), 1)),))
+>>> C = A[:3] + ((("add", (0, (1,), 1), (0, (1,), 1)),),)
+>>> [find_change(A, A[:2] + ((3,),) + A[3:]), change_holds(A, C, ("steps", (2, 2)))]
+[('change', ((1,),), (3,)), True]
+""",
+    46: """
+>>> from wirebeats.alike import Array
+>>> one = Array.of((2, (("add", (0, (1, 0)), (0, (0, 1))),)), ((1, 1), (0,)), (1, 1), ((1, -1),))
+>>> [(one * 2).value[:3], (one // ((-1,),))[0]]
+[(4, (2,), (0,)), ('add', (0, (-1,), 1), (0, (1,), 1))]
+""",
+    47: """
+>>> from wirebeats.jobs import free_begin, gap_serves, meeting, next_gap
+>>> W, U, B, Z = (1, 1), (1, 1), (3, 3), (0, 0)
+>>> [meeting(W, U, (Z, B, 0), (Z, B, 4)), meeting(W, U, (Z, B, 0), (Z, B, 3)), [gap_serves(W, U, B, gap, None) for gap in range(1, 7)]]
+[((2, 2), (0, 0)), None, [False, False, True, False, True, True]]
+>>> [gap_serves(W, U, B, 1, 2), next_gap(W, U, B, 4), free_begin(W, U, Z, B, ((Z, B, 0), (Z, B, 1)), 0)]
+[True, 5, 6]
+""",
+    48: """
+>>> from wirebeats.borders import count_outside, from_outside
+>>> [from_outside((4, 4), (1, 1), (2, 2), (1, 0)), from_outside((4, 4), (1, 1), (0, 0), (-1, 2))]
+[((0, 1),), ((0, 2), (3, 1))]
+>>> F = (2, (("add", (0, (1, 0)), (0, (0, 1))),))
+>>> [count_outside(F, (4, 4), 0), count_outside(F, (10 ** 9, 1), 0)]
+[8, 1000000001]
+""",
     61: """
 >>> from wirebeats.flowtexts import beats_text, numbers_text, vector_text
 >>> [vector_text((1, -20)), numbers_text((0, 7)), beats_text(((2, -1), (0, 1)))]
@@ -85,6 +183,18 @@ EXAMPLES = {
 >>> F = (2, (("add", (0, (1, 0)), (1, (0, -1))), ("copy", (0, (0, 0)))))
 >>> [flow_text(F), parse_flow("3 / neg 0@1,0,0"), rule_text(("neg", (0, (1, 0))))]
 ['2 / add 0@1,0 1@0,-1 / copy 0@0,0', (3, (('neg', (0, (1, 0, 0))),)), 'neg 0@1,0']
+""",
+    66: """
+>>> from wirebeats.benches import Bench
+>>> bench = Bench((2, (("copy", (1, (0, 0))), ("neg", (0, (1, 0))))), (2, 0), (0, 1))
+>>> [bench.starts_at(), bench.array_at(), bench.weigh((1, 5)), bench.starts_at(version=0) == bench.starts_at(), bench.array_at()[0]]
+[('starts', (1, 0)), ('still', None), 1, False, 'ring']
+""",
+    69: """
+>>> from wirebeats.benches import Bench
+>>> bench = Bench((2, (("neg", (0, (1, 0))),)), (1, 2), (0, 1))
+>>> [bench((2, 1), ((0, (-1, 0), 5),)), bench.period, bool(bench), bench.weigh((-1, 2)), bool(bench), str(bench)]
+[((65516, 5),), 2, True, 1, False, '1 planes, 1 reads, period 2, 1 edits']
 """,
 }
 

@@ -11,11 +11,16 @@ FOLDER = pathlib.Path(__file__).resolve().parent.parent / "wirebeats"
 FILES = sorted(FOLDER.rglob("*.py"))
 CALLED_BUILTINS = set("len range enumerate zip min max sum abs sorted reversed int str bool list tuple dict set isinstance"
                       " ord repr any all divmod".split())
-ERROR_CLASSES = {"ValueError"}
+ERROR_CLASSES = {"ValueError", "TypeError"}
+DECORATORS = {"property", "classmethod"}
 METHODS = set("append clear copy count endswith extend find get index insert isalnum isalpha isdigit islower isspace"
               " isupper items join keys ljust lower lstrip partition pop remove replace reverse rfind rjust rpartition"
               " rsplit rstrip setdefault split splitlines startswith strip update upper values zfill".split())
 LIBRARY = {"math": {"gcd"}}
+CHANGING = set("append clear extend insert pop remove reverse setdefault update add discard sort".split())
+OPERATORS = set("__add__ __contains__ __getitem__ __floordiv__ __rshift__ __mul__ __sub__ __and__ __or__ __bool__ __eq__"
+                " __len__ __str__".split())
+DOUBLE = OPERATORS | {"__init__", "__call__", "__iter__"}
 TAKE_LISTS = {"any", "all", "min", "max", "sum", "sorted"}
 BARRED_NODES = (ast.Global, ast.AsyncFunctionDef, ast.AsyncFor, ast.AsyncWith, ast.Await, ast.Set, ast.SetComp, ast.Div)
 BARRED_NAMES = set("register mro elements open input law version_info with_traceback add_note attrgetter breakpoint builtins"
@@ -27,6 +32,69 @@ BARRED_WORDS = set("type typing typing_extensions enum Enum IntEnum StrEnum Flag
 
 def trees():
     return [(path, ast.parse(path.read_text())) for path in FILES]
+
+
+def methods_of(tree):
+    """The pairs (class, method) of a file."""
+    classes = [node for node in tree.body if isinstance(node, ast.ClassDef)]
+    return [(found, node) for found in classes for node in found.body if isinstance(node, ast.FunctionDef)]
+
+
+def own_methods():
+    return {method.name for _, tree in trees() for _, method in methods_of(tree)}
+
+
+def all_functions():
+    """All functions and methods of the package, by name; a class stands for its making."""
+    found = {}
+    for _, tree in trees():
+        for node in ast.walk(tree):
+            if isinstance(node, ast.FunctionDef):
+                found.setdefault(node.name, []).append(node)
+        for kept, method in methods_of(tree):
+            if method.name == "__init__":
+                found.setdefault(kept.name, []).append(method)
+    return found
+
+
+def called_names(function):
+    """The names of what a function calls or, as it may be a property, reads off an object."""
+    for node in ast.walk(function):
+        if isinstance(node, ast.Call) and isinstance(node.func, ast.Name):
+            yield node.func.id
+        if isinstance(node, ast.Attribute):
+            yield node.attr
+
+
+def is_fresh(value):
+    """Whether an expression makes a list or a dict of its own."""
+    if isinstance(value, ast.Call):
+        return isinstance(value.func, ast.Name) and value.func.id in ("list", "dict", "sorted")
+    return isinstance(value, (ast.List, ast.ListComp, ast.Dict))
+
+
+def changes_of(function):
+    """What a function changes that it did not make itself, as lines of code."""
+    values = {}
+    for node in ast.walk(function):
+        if isinstance(node, ast.Assign):
+            for target in node.targets:
+                if isinstance(target, ast.Name):
+                    values.setdefault(target.id, []).append(node.value)
+    own = {name for name, made in values.items() if all(is_fresh(value) for value in made)}
+    for node in ast.walk(function):
+        targets = []
+        if isinstance(node, ast.Assign):
+            targets = [target for target in node.targets if not isinstance(target, (ast.Name, ast.Tuple))]
+        if isinstance(node, ast.AugAssign):
+            plain = isinstance(node.target, ast.Name) and all(isinstance(v, ast.Constant) for v in values[node.target.id])
+            targets = [] if plain else [node.target]
+        if isinstance(node, ast.Call) and isinstance(node.func, ast.Attribute) and node.func.attr in CHANGING:
+            targets = [node.func]
+        for target in targets:
+            kept = getattr(target, "value", None)
+            if not isinstance(kept, ast.Name) or kept.id not in own:
+                yield ast.unparse(node)
 
 
 def bound_names(tree):
@@ -117,7 +185,9 @@ class Language(unittest.TestCase):
                 self.assertNotIsInstance(node, BARRED_NODES, path)
                 if isinstance(node, ast.FunctionDef):
                     self.assertLessEqual(node.end_lineno - node.lineno + 1, 40, node.name)
-                    self.assertFalse(node.decorator_list, node.name)
+                    names = [getattr(decorator, "id", None) for decorator in node.decorator_list]
+                    self.assertLessEqual(len(names), 1, node.name)
+                    self.assertLessEqual(set(names), DECORATORS, node.name)
                 if isinstance(node, ast.Constant):
                     self.assertNotIsInstance(node.value, (float, complex, bytes), path)
                 if isinstance(node, ast.Compare):
@@ -129,21 +199,93 @@ class Language(unittest.TestCase):
         for path, tree in trees():
             for name, node in bound_names(tree):
                 # A Python session, such as a doctest, gives the builtins a name _ of its own.
-                self.assertFalse(name not in ("_", "__init__") and hasattr(builtins, name), (path, name))
+                self.assertFalse(name != "_" and name not in DOUBLE and hasattr(builtins, name), (path, name))
                 self.assertNotIn(name, BARRED_NAMES, path)
-                self.assertFalse(name.startswith("_") and name not in ("_", "__init__"), (path, name))
+                self.assertTrue(name == "_" or name in DOUBLE or not name.startswith("__"), (path, name))
 
     def test_calls(self):
+        own = own_methods()
         for path, tree in trees():
             for node in ast.walk(tree):
                 if isinstance(node, ast.Name) and isinstance(node.ctx, ast.Load) and hasattr(builtins, node.id):
-                    self.assertIn(node.id, CALLED_BUILTINS | ERROR_CLASSES, path)
+                    self.assertIn(node.id, CALLED_BUILTINS | ERROR_CLASSES | DECORATORS | {"super"}, path)
                 if not isinstance(node, ast.Call):
                     continue
                 if isinstance(node.func, ast.Attribute):
-                    self.assertIn(node.func.attr, METHODS, path)
+                    self.assertIn(node.func.attr, METHODS | own, path)
+                for part in node.args:
+                    if isinstance(part, ast.Starred):
+                        self.assertIsInstance(part.value, (ast.Name, ast.Attribute), path)
+                if isinstance(node.func, ast.Name) and node.func.id == "reversed":
+                    self.assertIn(node.args[0].func.id, ("list", "range", "sorted", "tuple"), path)
                 if isinstance(node.func, ast.Name) and node.func.id in TAKE_LISTS:
                     self.assertFalse([part for part in node.args if isinstance(part, ast.GeneratorExp)], path)
+
+    def test_sets(self):
+        for path, tree in trees():
+            inner = [node.args[0] for node in ast.walk(tree) if isinstance(node, ast.Call)
+                     and isinstance(node.func, ast.Name) and node.func.id in ("sorted", "len")]
+            for node in ast.walk(tree):
+                if isinstance(node, ast.Call) and isinstance(node.func, ast.Name) and node.func.id == "set":
+                    self.assertTrue(any(node is part for part in inner), path)
+
+    def test_generators(self):
+        functions = all_functions()
+        names = {name for name, nodes in functions.items() for node in nodes
+                 if any(isinstance(part, (ast.Yield, ast.YieldFrom)) for part in ast.walk(node))}
+        for path, tree in trees():
+            iterated = [node.iter for node in ast.walk(tree) if isinstance(node, (ast.For, ast.comprehension))]
+            for node in ast.walk(tree):
+                if isinstance(node, ast.Call) and getattr(node.func, "id", getattr(node.func, "attr", None)) in names:
+                    self.assertTrue(any(node is part for part in iterated), path)
+        self.assertTrue(all(len(functions[name]) == 1 for name in names), names)
+
+    def test_classes(self):
+        for path, tree in trees():
+            names = {}
+            for kept, method in methods_of(tree):
+                names.setdefault(kept.name, []).append(method.name)
+                last = method.body[-1]
+                if method.name in ("__len__", "__bool__"):
+                    self.assertEqual(last.value.func.id, {"__len__": "len", "__bool__": "bool"}[method.name], path)
+                if method.name == "__str__":
+                    call = isinstance(last.value, ast.Call) and last.value.func.id == "str"
+                    self.assertTrue(call or isinstance(last.value, ast.JoinedStr), path)
+                if method.name == "__iter__":
+                    self.assertEqual((len(method.body), last.exc.func.id), (1, "TypeError"), path)
+                self.assertFalse(method.name == "__init__" and any(isinstance(n, ast.Return) for n in ast.walk(method)), path)
+            for kept, found in names.items():
+                self.assertEqual(len(found), len(set(found)), kept)
+                self.assertEqual("__getitem__" in found, "__iter__" in found, kept)
+            stored = {node.attr for node in ast.walk(tree) if isinstance(node, ast.Attribute) and isinstance(node.ctx, ast.Store)}
+            self.assertFalse(stored & {name for found in names.values() for name in found}, path)
+            self.assertFalse(stored & METHODS - {"index"}, path)
+
+    def test_what_operators_and_properties_run_changes_nothing(self):
+        functions = all_functions()
+        begun = [method for _, tree in trees() for _, method in methods_of(tree)
+                 if method.name in OPERATORS or "property" in [getattr(mark, "id", "") for mark in method.decorator_list]]
+        self.assertGreater(len(begun), 15)
+        seen = []
+        while begun:
+            function = begun.pop()
+            if any(function is other for other in seen):
+                continue
+            seen.append(function)
+            if function.name != "__init__":
+                self.assertEqual(list(changes_of(function)), [], function.name)
+            for name in called_names(function):
+                begun.extend(functions.get(name, []))
+        self.assertGreater(len(seen), 40)
+
+    def test_tries(self):
+        for path, tree in trees():
+            for node in ast.walk(tree):
+                if isinstance(node, ast.Try):
+                    self.assertEqual([handler.type.id for handler in node.handlers], ["WireError"] * len(node.handlers), path)
+                    for line in node.finalbody:
+                        self.assertIsInstance(line, ast.Assign, path)
+                        self.assertIsInstance(line.value, (ast.Name, ast.Attribute, ast.Constant), path)
 
 
 if __name__ == "__main__":

@@ -299,6 +299,24 @@ class Changes(Case):
         other = (1, (0,), (0, 0), (("copy", (1, (1,), 6)), ("neg", (0, (1,), 1))))
         self.same([ask(change_holds, one, other, ("gain", plane, 0)) for plane in (0, 1, 2, -1, True)], [True, True] + [False] * 3)
 
+    def test_taps_that_are_none(self):
+        rules = (("add", (0, (1,), 1), (1, (2,), 1)), ("neg", (0, (1,), 1)), ("madd", (0, (0,), 1), (1, (0,), 1), (2, (0,), 1)))
+        one, other = (1, (0,), (0, 0, 0), rules), (1, (0,), (0, 0, 7), rules)
+        planes = list(range(-4, 6)) + [True, False, None, "0", (0,), 10 ** 39]
+        for plane in planes:
+            for operand in planes:
+                differs = is_int(plane) and is_int(operand) and (plane, operand) in ((2, 0), (2, 1))
+                self.assertIs(ask(change_holds, one, other, ("gain", plane, operand)), differs, (plane, operand))
+        self.same(self.check(one, other), ("gain", 2, 0))
+
+    def test_other_widths_alone(self):
+        deep = (1, (0, 0), (0,), (("add", (0, (1, 0), 1), (0, (0, 1), 1)),))
+        flat = (1, (0,), (0,), (("add", (0, (1,), 1), (0, (0,), 1)),))
+        for one, other in ((deep, flat), (flat, deep)):
+            self.same(self.check(one, other), ("form",))
+            for value in (("gain", 0, 0), ("steps", (0, 1)), ("steps", (1, 0)), ("change", UNITS[1], (0,)), ("change", UNITS[2], (0,))):
+                self.assertIs(ask(change_holds, one, other, value), False)
+
     def test_other_steps(self):
         words = {}
         for rng, array in whole_arrays(139, 250, 1):

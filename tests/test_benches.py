@@ -584,6 +584,7 @@ class Queries(Case):
                 other.undo()
             self.same(now(other), model.states[0])
             self.same(tells(model.bench), before)
+            self.same(tells(other.copy()), tells(other))
             other.attempt([("weigh", other.weights_at())])
             model.undo(self)
             model.check(self)

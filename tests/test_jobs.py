@@ -23,12 +23,15 @@ def vectors_of(job):
 def on_one_line(direction, one, other):
     """Whether the way between two vectors is so many times the direction."""
     moves = less(other, one)
-    return any(moves == tuple(many * item for item in direction) for many in range(-60, 61))
+    many = next(move // item for move, item in zip(moves, direction) if item)
+    return moves == tuple(many * item for item in direction)
 
 
 def all_meetings(weights, direction, one, other):
-    return [(v, z) for v in vectors_of(one) for z in vectors_of(other)
-            if dot(weights, v) + one[2] == dot(weights, z) + other[2] and on_one_line(direction, v, z)]
+    beats = {}
+    for vector in vectors_of(other):
+        beats.setdefault(dot(weights, vector) + other[2], []).append(vector)
+    return [(v, z) for v in vectors_of(one) for z in beats.get(dot(weights, v) + one[2], []) if on_one_line(direction, v, z)]
 
 
 def some_cases(seed, many, most=4, reach=4):
@@ -215,6 +218,25 @@ class FreeBegin(Case):
                 expected += 1
             moved += expected > begin
             self.same(ask(free_begin, weights, direction, corner, box, jobs, begin), expected)
+        self.assertGreater(moved, 15)
+
+    def test_periods_of_all_kinds(self):
+        moved = 0
+        for rng, weights, direction, period in some_cases(177, 150, 5, 2):
+            dims = len(direction)
+            corner, box = some_vector(rng, dims, 9), tuple(rng.randint(2, 5) for _ in range(dims))
+            # Jobs of which the first one meets a job begun at once, and each other one a job begun a beat or a period later.
+            begin, late, jobs = rng.randint(-30, 30), 0, []
+            while len(jobs) < rng.randint(1, 12):
+                many = rng.randint(-1, 1)
+                there = tuple(item + many * move for item, move in zip(corner, direction))
+                jobs.append((there, box, begin + late - many * dot(weights, direction)))
+                late = rng.choice((late + 1, late + period, rng.randrange(2 * period)))
+            expected = begin
+            while any(all_meetings(weights, direction, (corner, box, expected), job) for job in jobs):
+                expected += 1
+            moved += period > 2 and expected > begin + 1
+            self.same(ask(free_begin, weights, direction, corner, box, tuple(jobs), begin), expected)
         self.assertGreater(moved, 15)
 
     def test_many_jobs_that_meet_one_another(self):

@@ -93,13 +93,13 @@ def barred_begins(rise, direction, mine, job):
 def free_from(every, barred, begin):
     """The least begin, some periods behind this one or none, that is in no barred stretch."""
     found = begin
-    moves = True
-    while moves:
-        moves = False
+    is_free = False
+    while not is_free:
+        is_free = True
         for first, last in barred:
             if first <= found <= last and (found - first) % every == 0:
                 found = last + every
-                moves = True
+                is_free = False
     return found
 
 

@@ -1,7 +1,7 @@
 """The lines of a direction that meet a box, in the order of their first points."""
 
 from wirebeats.boxes import count_points, is_point
-from wirebeats.counts import count_lines
+from wirebeats.counts import count_lines, count_staying
 from wirebeats.directions import check_direction, is_some_direction
 from wirebeats.errors import BadDirection, NoIndex, NoPoint
 from wirebeats.vectors import is_far, is_within, moved_by, steps_inside
@@ -33,10 +33,7 @@ def steps_between(direction, point, other):
 
 
 def edge_of(size, move):
-    """The first item behind the edge by which a line with this move comes in, and the first one ahead of it.
-
-    The point before one with an item from the first to less than the second number is outside.
-    """
+    """Numbers (low, high) such that just the items from low to high - 1 have a step back that leads outside."""
     if move > 0:
         return (0, min(size, move))
     return (max(0, size + move), size)
@@ -45,14 +42,13 @@ def edge_of(size, move):
 def count_first(box, direction, axis):
     """The number of first points by the items from this axis on alone."""
     sizes = box[axis:]
-    moves = direction[axis:]
-    return count_points(sizes) - count_points([max(0, size - abs(move)) for size, move in zip(sizes, moves)])
+    return count_points(sizes) - count_staying(sizes, direction[axis:], 1)
 
 
 def stretches_of(box, direction, axis, met):
-    """The stretches of an item, ascending: (first item, number of items, is at an edge, first points for each item).
+    """Stretches of items, ascending: (first item, number of items, is at an edge, first points with each item).
 
-    met is whether an item further to the left is at an edge, so that all items are.
+    A point is a first point if an item of it is at an edge. met is whether one further to the left is.
     """
     size = box[axis]
     low, high = (0, size) if met else edge_of(size, direction[axis])

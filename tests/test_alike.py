@@ -4,7 +4,7 @@ import random
 import unittest
 
 from support import KINDS, ODD, Case, all_directions, ask, damaged, dot, is_int, served, some_vector
-from test_arrays import made, some_array
+from test_arrays import made, parts_of, some_array, some_steps, with_rules
 from test_runs import FEEDS, FIELD, drawn
 
 from wirebeats.alike import Array, change_holds, find_change, moved
@@ -356,6 +356,29 @@ class Changes(Case):
             for value in (("form",), None, ("change", ((1,),), (0,))):
                 self.raises(Parted, {"number": number}, change_holds, one, other, value)
 
+    def test_arrays_of_up_to_18_taps(self):
+        ends = {}
+        for rng, width, steps in some_steps(151, 400):
+            array = with_rules(width, steps, rng)
+            many = parts_of(width, steps)
+            if many != 1:
+                for value in (None, ("form",), ("change", UNITS[width], (0,) * len(array[3]))):
+                    self.raises(Parted, {"number": many}, change_holds, array, array, value)
+                self.raises(Parted, {"number": many}, find_change, array, array)
+                continue
+            matrix = some_matrix(rng, width, 2)
+            other = changed(array, matrix, (0,) * len(array[3]))
+            plane, operand, (source, step, delay) = rng.choice(taps(other))
+            nearly = replaced(other, plane, operand, (source, tuple(-item for item in step), delay))
+            exchanged = array[:3] + (tuple(rng.sample(array[3], len(array[3]))),)
+            for told in (other, nearly, exchanged):
+                if is_array(told) and parts(told) == 1:
+                    word = self.check(array, told)[0]
+                    ends[word] = ends.get(word, 0) + 1
+                    for value in ODD + (("change", UNITS[width], (0,) * len(array[3])), ("change", matrix, (1,) * len(array[3]))):
+                        self.assertIs(ask(change_holds, array, told, value), right(array, told, value))
+        self.assertTrue(all(ends.get(word, 0) > 20 for word in ("change", "steps", "form")), ends)
+
     def test_evidence_changed_in_one_place(self):
         counts = {True: 0, False: 0}
         for rng, array in whole_arrays(141, 80):
@@ -473,6 +496,19 @@ class Arrays(Case):
             self.same(array_tells(one), array_tells(Array(array)))
         self.same((Array(A) // ((-1,),))[0], ("add", (0, (-1,), 1), (0, (1,), 1)))
         self.same((Array(A) >> (5,)).value, A[:2] + ((5,),) + A[3:])
+
+    def test_periods(self):
+        rng = random.Random(152)
+        for at in range(40):
+            array = some_array(rng, 1 + at % 2, 1 + at % 4, 3, rng.choice((1, 2, 30, 1000)))
+            one = Array(array)
+            for other, every in ((one, array[0]), (one // some_matrix(rng, 1 + at % 2, 1), array[0]), (one >> (7,) * len(one), array[0]),
+                                 (one * 3, 3 * array[0]), (one * 3 // UNITS[1 + at % 2] * 2, 6 * array[0])):
+                self.same((other.period, other.value[0]), (every, every))
+        of = Array.of((2, (("neg", (0, (1, 0))),)), ((5, -2), (0,)), (1, -1), ((1, 1),))
+        self.same((of.period, (of * 4).period, (of >> (1,)).period), (7, 28, 7))
+        with self.assertRaises(AttributeError):
+            of.period = 3
 
     def test_times(self):
         rng = random.Random(148)

@@ -1,6 +1,7 @@
 """Promises 37 to 40: arrays."""
 
 import itertools
+import math
 import random
 import unittest
 
@@ -282,6 +283,56 @@ class Parts(Case):
                         seen.add(there)
                         work.append(there)
             self.assertEqual(found * len(seen), modulo ** 2)
+
+
+    def test_against_the_areas_of_all_pairs(self):
+        seen = set()
+        for rng, width, steps in some_steps(72, 600):
+            many = parts_of(width, steps)
+            seen.add(min(many, 3))
+            array = with_rules(width, steps, rng)
+            self.same(ask(parts, array), many, array)
+            for _ in range(2):
+                rules = rng.sample(array[3], len(array[3]))
+                self.same(ask(parts, array[:3] + (tuple(rules),)), many)
+        self.assertEqual(seen, {0, 1, 2, 3})
+
+
+def parts_of(width, steps):
+    """The number of parts by the greatest common divisor of all lengths, or of the areas of all pairs."""
+    if width == 1:
+        return math.gcd(*[step[0] for step in steps])
+    return math.gcd(0, *[a * d - b * c for (a, b), (c, d) in itertools.combinations(steps, 2)])
+
+
+def some_steps(seed, many):
+    """Steps of one and of two items, from 1 to 18 of them, of all sorts."""
+    rng = random.Random(seed)
+    for at in range(many):
+        width, count = 1 + at % 2, rng.randint(1, 18)
+        most = rng.choice((1, 3, 12, 1000, GREAT))
+        steps = [some_vector(rng, width, most) for _ in range(count)]
+        if at % 5 == 1:
+            steps = [(0,) * width for _ in steps]
+        elif at % 5 == 2:
+            along = some_vector(rng, width, 5)
+            steps = [tuple(number * item for item in along) for number in (rng.randint(-GREAT // 5, GREAT // 5) for _ in steps)]
+        elif at % 5 == 3:
+            number = rng.choice((2, 3, 12, GREAT))
+            steps = [tuple(number * rng.randint(-GREAT // number, GREAT // number) for _ in step) for step in steps]
+        elif at % 5 == 4:
+            steps = [tuple(rng.choice((-GREAT, GREAT, GREAT - 1, 1 - GREAT, 0)) for _ in step) for step in steps]
+        yield rng, width, steps
+
+
+def with_rules(width, steps, rng):
+    """An array of period 1 with rules of all kinds that have just these steps."""
+    rules, rest = [], list(steps)
+    while rest:
+        least = max(1, len(rest) - 3 * (5 - len(rules)))
+        kind = rng.choice([kind for kind, many in KINDS.items() if least <= many <= len(rest)])
+        rules.append((kind, *[(0, rest.pop(), 1) for _ in range(KINDS[kind])]))
+    return (1, (0,) * width, (0,) * len(rules), tuple(rules))
 
 
 def some_readings(seed, many_of_each=1):

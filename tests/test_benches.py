@@ -544,6 +544,21 @@ class Queries(Case):
         with self.assertRaises(TypeError):
             list(bench)
 
+    def test_period_behind_each_edit(self):
+        bench = Bench(F, (1, 2), (0, 1))
+        periods = [bench.period]
+        for edit in (lambda: bench.put(NEG), lambda: bench.weigh((3, -7)), lambda: bench.change(0, NEG), lambda: bench.aim((1, -1)),
+                     lambda: bench.drop(), lambda: bench.weigh((2, 2))):
+            edit()
+            periods.append(bench.period)
+        self.same(periods, [2, 2, 7, 7, 10, 10, 0])
+        for every in periods[-2::-1]:
+            bench.undo()
+            self.same((bench.period, bench.copy().period), (every, every))
+        seen = []
+        bench.attempt([("weigh", (5, 6)), ("aim", (-1, 1)), ("put", NEG)], on_step=lambda told: seen.append(told.period))
+        self.same((seen, bench.period), ([6, 1, 1], 1))
+
     def test_period_and_text(self):
         bench = Bench(F, (1, 2), (0, 1))
         self.same((bench.period, str(bench)), (2, "1 planes, 2 reads, period 2, 0 edits"))

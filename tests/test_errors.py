@@ -66,7 +66,7 @@ INTERFACE = {
 # For each class its file, its methods as they are called, and its properties.
 CLASSES = {
     "Flow": ("words", ["Flow(value)", "of(dims, *rules)"], []),
-    "Array": ("alike", ["Array(value)", "of(flow, beats, direction, rows)"], []),
+    "Array": ("alike", ["Array(value)", "of(flow, beats, direction, rows)"], ["period"]),
     "Bench": ("benches", ["Bench(flow, weights, direction)", "put(rule)", "drop()", "change(plane, rule)", "weigh(weights)",
                           "aim(direction)", "undo()", "edits()", "flow_at(*, version=None)", "weights_at(*, version=None)",
                           "direction_at(*, version=None)", "starts_at(*, version=None)", "array_at(*, version=None)",

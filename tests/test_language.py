@@ -261,6 +261,14 @@ class Language(unittest.TestCase):
             self.assertFalse(stored & {name for found in names.values() for name in found}, path)
             self.assertFalse(stored & METHODS - {"index"}, path)
 
+    def test_no_property_is_stored(self):
+        properties = {method.name for _, tree in trees() for _, method in methods_of(tree)
+                      if "property" in [getattr(mark, "id", "") for mark in method.decorator_list]}
+        stored = {node.attr for _, tree in trees() for node in ast.walk(tree)
+                  if isinstance(node, ast.Attribute) and isinstance(node.ctx, ast.Store)}
+        self.assertLessEqual({"period", "starts"}, properties)
+        self.assertEqual(properties & stored, set())
+
     def test_what_operators_and_properties_run_changes_nothing(self):
         functions = all_functions()
         begun = [method for _, tree in trees() for _, method in methods_of(tree)

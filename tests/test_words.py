@@ -235,6 +235,42 @@ class Words(Case):
         self.check(snake, ((0, 2), (1, 0)), (1, 240), ((0, (0, -1), 3), (1, (0, -1), 5)))
         self.check((3, (("neg", (0, (0, -1, 0))),)), ((0, -60, 0), (10000,)), (1, 240, 1), ((0, (0, 240, 0), 3),))
 
+    def test_the_longest_chain(self):
+        flow = (2, tuple(("neg", ((k + 5) % 6, (int(k == 0), 0))) for k in range(6)))
+        beats, outside = ((6, 0), (0, 1, 2, 3, 4, 5)), ((5, (-1, 0), 1),)
+        rows = self.check(flow, beats, (240, 1), outside)
+        self.same(rows, tuple((M - 1, 1)[plane % 2:plane % 2 + 1] * 240 for plane in range(6)))
+        for plane in range(6):
+            for at in (0, 1, 100, 239):
+                self.same(ask(word_at, flow, beats, (240, 1), outside, plane, (at, 0)), rows[plane][at])
+        late = all_words(flow, beats, (240, 1), outside)
+        self.same([late[0], late[7], late[1439]], [(0, 0, (0, 0), M - 1), (7, 1, (1, 0), 1), (1439, 5, (239, 0), 1)])
+
+    def test_each_kind_in_chains(self):
+        rng = random.Random(96)
+        for kind, many in KINDS.items():
+            for box in ((12, 20), (3, 5, 16), (1, 1), (2, 1, 2), (240, 1), (1, 1, 240)):
+                for sign in (1, -1):
+                    weights = tuple(sign * rng.randint(1, 60) for _ in box)
+                    distances = [tuple(sign * rng.randint(0, 4) for _ in box) for _ in range(4 * many)]
+                    distances = [d if any(d) else (sign,) + d[1:] for d in distances]
+                    rules = tuple((kind, *[(rng.randrange(4), distances.pop()) for _ in range(many)]) for _ in range(4))
+                    flow = (len(box), rules)
+                    outside = some_outside(rng, flow, box)
+                    rows = self.check(flow, (weights, (0,) * 4), box, outside)
+                    for _ in range(3):
+                        plane, at = rng.randrange(4), rng.randrange(len(rows[0]))
+                        self.same(word_at(flow, (weights, (0,) * 4), box, outside, plane, points(box)[at]), rows[plane][at])
+
+    def test_outside_words_at_the_edge_of_reach(self):
+        rules = (("add", (0, (4, 4)), (0, (4, -4))), ("most", (0, (-4, 4)), (0, (4, 3))))
+        box = (2, 3)
+        reach = [(x, y) for x in range(-6, 8) for y in range(-6, 9) if not inside(box, (x, y))]
+        for flow, beats in (((2, rules), ((1, 0), (0, 5))), ((2, rules[:1]), ((60, 2), (-9,)))):
+            for vector in reach:
+                for plane in range(len(flow[1])):
+                    self.check(flow, beats, box, ((plane, vector, 7),))
+
     def test_errors_in_their_order(self):
         good, bad = ((0, (-1, 0), 1),), ((0, (0, 0), 1),)
         beats = ((1, 1), (0,))

@@ -78,24 +78,29 @@ def form_of(array):
 
 def spanning(steps, width):
     """The indexes of as many steps as a place has items, with a determinant other than 0."""
-    indexes = [(one,) for one in range(len(steps))]
-    if width == 2:
-        indexes = [(one, two) for one in range(len(steps)) for two in range(one)]
-    return [chosen for chosen in indexes if determinant([steps[at] for at in chosen]) != 0][0]
+    first = 0
+    while not any(steps[first]):
+        first += 1
+    if width == 1:
+        return (first,)
+    second = first + 1
+    while determinant((steps[first], steps[second])) == 0:
+        second += 1
+    return (first, second)
 
 
-def relation(steps, chosen, at):
-    """Counts that show what the step with the index at is of the chosen ones: their sum is 0."""
-    basis = [steps[index] for index in chosen]
-    columns = list(zip(*basis))
-    whole = determinant(columns)
-    counts = [0 for _ in steps]
-    # Whole times the step is a sum of the chosen ones with integers as counts.
-    scaled = [whole * item for item in steps[at]]
-    for index, many in zip(chosen, solved(columns, scaled)):
-        counts[index] = -many
-    counts[at] = counts[at] + whole
-    return tuple(counts)
+def counts_of(basis, step):
+    """How often each step of a basis is in the step that is as many times as great as their determinant."""
+    return tuple([determinant(basis[:at] + (step,) + basis[at + 1:]) for at in range(len(basis))])
+
+
+def relation(many, chosen, at, whole, counts):
+    """The counts, one for each of so many steps, that say how the one at this index comes of the chosen ones."""
+    found = [0 for _ in range(many)]
+    for index, count in zip(chosen, counts):
+        found[index] = -count
+    found[at] = found[at] + whole
+    return tuple(found)
 
 
 def is_relation(steps, counts):
@@ -111,17 +116,24 @@ def find_change(one, other):
         for operand, gain in enumerate(row):
             if gain != told[operand]:
                 return ("gain", plane, operand)
+    return step_change(one, other)
+
+
+def step_change(one, other):
+    """The change of an array into one of the same form and gains, or steps that bar it."""
     steps = steps_of(one)
     others = steps_of(other)
     width = len(one[1])
     chosen = spanning(steps, width)
-    for at in range(len(steps)):
-        counts = relation(steps, chosen, at)
-        if not is_relation(others, counts):
-            return ("steps", counts)
-    # Now a matrix that moves the chosen steps moves all, and as both have one part it leads there and back.
     old = tuple([steps[at] for at in chosen])
-    matrix = tuple([solved(old, [others[at][axis] for at in chosen]) for axis in range(width)])
+    new = tuple([others[at] for at in chosen])
+    whole = determinant(old)
+    for at, step in enumerate(steps):
+        counts = counts_of(old, step)
+        if combined(counts, new) != tuple([whole * item for item in others[at]]):
+            return ("steps", relation(len(steps), chosen, at, whole, counts))
+    # Now a matrix that moves the chosen steps moves all, and as both have one part it leads there and back.
+    matrix = tuple([solved(old, [step[axis] for step in new]) for axis in range(width)])
     return ("change", matrix, moved_by(other[2], -1, one[2]))
 
 
@@ -129,20 +141,23 @@ def is_gain(one, other, plane, operand):
     """Whether this tells a tap whose gains are unlike in two arrays of one form."""
     if not is_within(plane, 0, len(one[3]) - 1) or not is_within(operand, 0, len(one[3][plane]) - 2):
         return False
-    return gains(one)[plane][operand] != gains(other)[plane][operand]
+    return form_of(one) == form_of(other) and gains(one)[plane][operand] != gains(other)[plane][operand]
 
 
 def is_difference(one, other, counts):
     """Whether the counts are a relation of the steps in just one of two arrays of one form."""
     steps = steps_of(one)
-    return is_far(len(steps), counts) and is_relation(steps, counts) != is_relation(steps_of(other), counts)
+    if not is_far(len(steps), counts) or form_of(one) != form_of(other):
+        return False
+    return is_relation(steps, counts) != is_relation(steps_of(other), counts)
 
 
 def leads(one, other, matrix, lags):
     """Whether this is a change that makes the other array of the first one."""
     if not is_change(len(one[1]), matrix) or not is_vector(len(one[3]), lags):
         return False
-    return array_behind(one, matrix, lags) == other
+    # Most wrong changes have wrong lags, and these are compared at once.
+    return moved_by(one[2], 1, lags) == other[2] and array_behind(one, matrix, lags) == other
 
 
 def change_holds(one, other, value):
@@ -150,13 +165,14 @@ def change_holds(one, other, value):
     check_whole(one, other)
     if not isinstance(value, tuple) or not value:
         return False
-    if value[0] == "change":
+    word = value[0]
+    if word == "change":
         return len(value) == 3 and leads(one, other, value[1], value[2])
-    if form_of(one) != form_of(other):
-        return value == ("form",)
-    if value[0] == "gain":
+    if word == "form":
+        return len(value) == 1 and form_of(one) != form_of(other)
+    if word == "gain":
         return len(value) == 3 and is_gain(one, other, value[1], value[2])
-    return value[0] == "steps" and len(value) == 2 and is_difference(one, other, value[1])
+    return word == "steps" and len(value) == 2 and is_difference(one, other, value[1])
 
 
 def scaled_rule(rule, number):
@@ -170,7 +186,6 @@ class Array:
     def __init__(self, value):
         check_array(value)
         self.value = value
-        self.period = value[0]
         self.width = len(value[1])
         self.rules = value[3]
         self.parts = parts(value)
@@ -178,6 +193,10 @@ class Array:
     @classmethod
     def of(cls, flow, beats, direction, rows):
         return cls(array_of(flow, beats, direction, rows))
+
+    @property
+    def period(self):
+        return self.value[0]
 
     def __getitem__(self, plane):
         if not is_within(plane, 0, len(self.rules) - 1):

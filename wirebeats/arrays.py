@@ -98,17 +98,32 @@ def gains(array):
     return tuple([tuple(row) for row in rows])
 
 
+def parts_along(steps):
+    """Into how many parts places of one item fall by these steps."""
+    many = 0
+    for step in steps:
+        many = gcd(many, step[0])
+    return many
+
+
+def parts_across(steps):
+    """Into how many parts places of two items fall by these steps."""
+    # All sums of steps so far are just those of (a, b) and (0, c), which have a determinant of a * c.
+    a = b = c = 0
+    for x, y in steps:
+        while x != 0:
+            many = a // x
+            a, b, x, y = x, y, a - many * x, b - many * y
+        c = gcd(c, y)
+        # A smaller b does as well and keeps the numbers small.
+        b = b % c if c != 0 else b
+    return abs(a * c)
+
+
 def parts(array):
     """Into how many parts the places fall, 0 for endlessly many."""
     steps = [tap[1] for rule in array[3] for tap in rule[1:]]
-    # The parts are as many as the greatest common divisor of the lengths or areas that steps span.
-    spans = [[step] for step in steps]
-    if len(array[1]) == 2:
-        spans = [[one, other] for one in steps for other in steps]
-    many = 0
-    for span in spans:
-        many = gcd(many, determinant(span))
-    return many
+    return parts_along(steps) if len(array[1]) == 1 else parts_across(steps)
 
 
 def check_fit(array, rows, weights):

@@ -22,10 +22,15 @@ def count_points(box):
     return many
 
 
-def points_of(box):
-    """The ascending tuple of the points of a small box."""
+def check_small(box):
+    """Raise TooLarge if the box is not small."""
     if count_points(box) > MAX_POINTS:
         raise TooLarge(MAX_POINTS)
+
+
+def points_of(box):
+    """The ascending tuple of the points of a small box."""
+    check_small(box)
     last = [size - 1 for size in box]
     return tuple(grid((0,) * len(box), last))
 

@@ -1,10 +1,10 @@
 """Runs of arrays, beat by beat, and what waits on their wires."""
 
+from wirebeats.bounds import MODULUS
 from wirebeats.boxes import points_of
 from wirebeats.directions import period
 from wirebeats.errors import Flat
 from wirebeats.vectors import dot, image, moved_by
-from wirebeats.words import word_made
 
 
 def field_of(box, weights, direction, rows):
@@ -48,6 +48,29 @@ def words_read(array, work):
 def words_told(told):
     """The words of feeds or of a state, by plane, place and beat."""
     return {(plane, place, beat): word for plane, place, beat, word in told}
+
+
+def word_made(kind, words):
+    """What a rule of this kind makes of the words of its operands."""
+    first = words[0]
+    last = words[-1]
+    if kind == "copy":
+        return first
+    if kind == "least":
+        return min(first, last)
+    if kind == "most":
+        return max(first, last)
+    if kind == "neg":
+        number = -first
+    elif kind == "add":
+        number = first + last
+    elif kind == "sub":
+        number = first - last
+    elif kind == "mul":
+        number = first * last
+    else:
+        number = first + words[1] * last
+    return number % MODULUS
 
 
 def trace_of(array, works, told):

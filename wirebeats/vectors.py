@@ -8,7 +8,7 @@ def is_integer(value):
 
 
 def is_within(value, low, high):
-    return is_integer(value) and low <= value <= high
+    return isinstance(value, int) and not isinstance(value, bool) and low <= value <= high
 
 
 def is_tuple_of(many, value):
@@ -21,7 +21,12 @@ def is_vector(dims, value):
 
 def is_bounded(dims, value, most):
     """Whether value is a vector with items from -most to most."""
-    return is_tuple_of(dims, value) and all([is_within(item, -most, most) for item in value])
+    if not isinstance(value, tuple) or len(value) != dims:
+        return False
+    for item in value:
+        if not is_within(item, -most, most):
+            return False
+    return True
 
 
 def is_far(dims, value):
@@ -30,7 +35,10 @@ def is_far(dims, value):
 
 
 def dot(one, other):
-    return sum([left * right for left, right in zip(one, other)])
+    total = 0
+    for left, right in zip(one, other):
+        total += left * right
+    return total
 
 
 def image(matrix, vector):
@@ -57,16 +65,15 @@ def unit_vectors(dims):
 
 
 def determinant(matrix):
-    """The determinant of a square matrix of at most three rows."""
-    if not matrix:
-        return 1
-    total = 0
-    sign = 1
-    for at, item in enumerate(matrix[0]):
-        minor = [row[:at] + row[at + 1:] for row in matrix[1:]]
-        total += sign * item * determinant(minor)
-        sign = -sign
-    return total
+    """The determinant of a square matrix of one, two or three rows."""
+    first = matrix[0]
+    if len(matrix) == 1:
+        return first[0]
+    if len(matrix) == 2:
+        return first[0] * matrix[1][1] - first[1] * matrix[1][0]
+    a, b, c = matrix[1]
+    d, e, f = matrix[2]
+    return first[0] * (b * f - c * e) - first[1] * (a * f - c * d) + first[2] * (a * e - b * d)
 
 
 def grid(low, high):

@@ -2,18 +2,24 @@
 
 from wirebeats.beats import beat_of, beats_error
 from wirebeats.bounds import MAX_ENTRIES, MAX_SIZE, MODULUS
-from wirebeats.boxes import box_error, is_point, points_of
+from wirebeats.boxes import box_error, check_small, is_point, point_index, points_of
 from wirebeats.errors import BadBeats, BadBox, BadFlow, BadOutside, NoPlane, NoPoint
 from wirebeats.flows import flow_error, has_rule, is_plane, joined, reads_of
 from wirebeats.flowtexts import flow_text
-from wirebeats.vectors import is_tuple_of, is_within, moved_by
+from wirebeats.sheets import laid_out, make_words, rounds_of
+from wirebeats.vectors import is_tuple_of, is_within
 
 
 def is_beside(box, value):
     """Whether value is a vector near the box, as an entry may have it, but no point of it."""
-    if not is_tuple_of(len(box), value) or is_point(box, value):
+    if not is_tuple_of(len(box), value):
         return False
-    return all([is_within(item, -MAX_SIZE, MAX_SIZE + size - 1) for item, size in zip(value, box)])
+    beside = False
+    for item, size in zip(value, box):
+        if not is_within(item, -MAX_SIZE, MAX_SIZE + size - 1):
+            return False
+        beside = beside or not 0 <= item < size
+    return beside
 
 
 def entry_error(flow, box, value):
@@ -50,63 +56,44 @@ def check_outside(flow, box, outside):
         raise BadOutside(error)
 
 
-def word_made(kind, words):
-    """What a rule of this kind makes of the words of its operands."""
-    first = words[0]
-    last = words[-1]
-    if kind == "copy":
-        return first
-    if kind == "least":
-        return min(first, last)
-    if kind == "most":
-        return max(first, last)
-    if kind == "neg":
-        number = -first
-    elif kind == "add":
-        number = first + last
-    elif kind == "sub":
-        number = first - last
-    elif kind == "mul":
-        number = first * last
-    else:
-        number = first + words[1] * last
-    return number % MODULUS
-
-
 def each_word(flow, beats, box, outside):
     """Yield (beat, plane, point, word) for all words of a small box, ascending."""
     points = points_of(box)
     check_outside(flow, box, outside)
-    words = {(plane, vector): word for plane, vector, word in outside}
-    planes = range(len(flow[1]))
-    order = sorted([(beat_of(flow, beats, plane, point), plane, point) for plane in planes for point in points])
-    for beat, plane, point in order:
-        rule = flow[1][plane]
-        # Every delay is at least 1, so what is read within the box has been made before.
-        operands = [words.get((source, moved_by(point, -1, distance)), 0) for source, distance in rule[1:]]
-        word = word_made(rule[0], operands)
-        words[(plane, point)] = word
-        yield (beat, plane, point, word)
+    addresses, makers = laid_out(flow, box, outside)
+    point_of = {address: point for address, point in zip(addresses, points)}
+    for beat, plane, working in rounds_of(box, beats, addresses):
+        for address in working:
+            make_words(makers[plane], [address])
+            yield (beat, plane, point_of[address], makers[plane][1][address])
 
 
 def words_of(flow, beats, box, outside):
     """For each plane, the tuple of the words at all points of a small box, ascending by points."""
-    words = {}
-    for _, plane, point, word in each_word(flow, beats, box, outside):
-        words[(plane, point)] = word
-    points = points_of(box)
-    return tuple([tuple([words[(plane, point)] for point in points]) for plane in range(len(flow[1]))])
+    check_small(box)
+    check_outside(flow, box, outside)
+    addresses, makers = laid_out(flow, box, outside)
+    # Every delay is at least 1, so what is read within the box has been made in an earlier round.
+    for _, plane, working in rounds_of(box, beats, addresses):
+        make_words(makers[plane], working)
+    return tuple([tuple([sheet[address] for address in addresses]) for _, sheet, _ in makers])
 
 
 def word_at(flow, beats, box, outside, plane, point):
     """The word of a plane at a point of a small box."""
-    points = points_of(box)
+    check_small(box)
     check_outside(flow, box, outside)
     if not is_plane(flow, plane):
         raise NoPlane(plane)
     if not is_point(box, point):
         raise NoPoint(point)
-    return words_of(flow, beats, box, outside)[plane][points.index(point)]
+    addresses, makers = laid_out(flow, box, outside)
+    wanted = beat_of(flow, beats, plane, point)
+    for beat, at, working in rounds_of(box, beats, addresses):
+        if beat > wanted:
+            break
+        make_words(makers[at], working)
+    return makers[plane][1][addresses[point_index(box, point)]]
 
 
 class Flow:

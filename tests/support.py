@@ -38,13 +38,17 @@ def told(error):
     return None if error is None else (error.__class__.__name__, error.__dict__)
 
 
+def name_of(function):
+    return getattr(function, "__name__", "an object")
+
+
 def ask(function, *args):
     """Call a function twice: both must end alike, and the arguments must stay as they were."""
     before = repr(args)
     result, error = outcome(function, args)
     again, other = outcome(function, args)
-    assert repr(args) == before, (function.__name__, before[:200])
-    assert repr((again, told(other))) == repr((result, told(error))), (function.__name__, before[:200])
+    assert repr(args) == before, (name_of(function), before[:200])
+    assert repr((again, told(other))) == repr((result, told(error))), (name_of(function), before[:200])
     if error is not None:
         raise error
     return result
@@ -61,17 +65,17 @@ class Case(unittest.TestCase):
             ask(function, *args)
         error = caught.exception
         self.assertIs(error.__class__, error_class)
-        self.assertEqual(list(error.__dict__), list(fields), (function.__name__, args))
+        self.assertEqual(list(error.__dict__), list(fields), (name_of(function), args))
         for name, value in fields.items():
             if any(value is arg for arg in args):
                 self.assertIs(error.__dict__[name], value)
             else:
-                self.same(error.__dict__[name], value, function.__name__, args)
+                self.same(error.__dict__[name], value, name_of(function), args)
 
     def ends(self, expected, function, *args):
         """The call ends as expected: with ("value", result), or with (error class, fields)."""
         if expected[0] == "value":
-            self.same(ask(function, *args), expected[1], function.__name__, args)
+            self.same(ask(function, *args), expected[1], name_of(function), args)
         else:
             self.raises(expected[0], expected[1], function, *args)
 

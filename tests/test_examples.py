@@ -68,6 +68,13 @@ EXAMPLES = {
 >>> [find_starts(G, (2, 0)), find_starts(G, (1, 5)), starts_hold(G, (2, 0), ("starts", (-3, -4)))]
 [('starts', (1, 0)), ('ring', ((0, 0), (1, 0))), True]
 """,
+    22: """
+>>> from wirebeats.chains import find_ranks, longest_chain
+>>> F = (2, (("add", (0, (1, 0)), (0, (0, 1))),))
+>>> S = (2, (("add", (0, (1, -1)), (0, (-1, 1))),))
+>>> [find_ranks(F, (2, 2)), find_ranks(S, (1, 3)), find_ranks(S, (2, 2))[0], len(longest_chain(F, (2, 3)))]
+[('ranks', ((0, 1, 1, 2),)), ('ranks', ((0, 0, 0),)), 'loop', 4]
+""",
     26: """
 >>> from wirebeats.directions import between, directions, is_direction, period
 >>> [is_direction(2, (2, -4)), is_direction(2, (1, -4)), directions(2, 1), period((1, 2), (1, -3)), between((0, 0, 1), (2, -4, 1))]
@@ -95,6 +102,11 @@ EXAMPLES = {
 >>> [count_at((3, 2), (1, 1), 2), count_at((10 ** 9, 10 ** 9), (2, 3), 10 ** 9), count_at((3, 2), (0, 0), 0)]
 [2, 166666667, 6]
 """,
+    31: """
+>>> from wirebeats.clashes import clash_holds, find_clash
+>>> [find_clash((3, 1), (1, -1), (1, 1)), find_clash((3, 2), (1, -1), (0, 1)), clash_holds((3, 2), (1, -1), (1, 1), ("clash", (1, 0), (2, 1)))]
+[('side', 1), ('period', 1), True]
+""",
     33: """
 >>> from wirebeats.places import canonical_rows, rows_certificate, rows_certificate_holds
 >>> [canonical_rows((3, -2)), canonical_rows((1, 1, 1)), canonical_rows((1, -2, 0))]
@@ -115,6 +127,12 @@ EXAMPLES = {
 [(1,), (1, 2)]
 >>> [works_at((1, 2), (1, 1), ((1, -1),), (-1,), 2), works_at((1, 2), (1, 1), ((1, -1),), (-1,), 3), next_beat((1, 2), (1, 1), ((1, -1),), (-1,), 3)]
 [(0, 1), None, 5]
+""",
+    36: """
+>>> from wirebeats.lineobjects import Lines
+>>> lines = Lines((1, 1))
+>>> [lines((3, 2), (2, 1)), lines // (3, 2), lines * (1, 2), lines == Lines((-1, -1)), ((0, 0), (2, 2)) in lines, str(lines), Lines.through((0, 4), (0, 1)).along]
+[((1, 0), 2, 1), 4, 3, True, True, 'lines along 1 1', (0, -1)]
 """,
     38: """
 >>> from wirebeats.arrays import array_error
@@ -172,6 +190,39 @@ EXAMPLES = {
 >>> F = (2, (("add", (0, (1, 0)), (0, (0, 1))),))
 >>> [count_outside(F, (4, 4), 0), count_outside(F, (10 ** 9, 1), 0)]
 [8, 1000000001]
+""",
+    50: """
+>>> from wirebeats.clusters import find_free, free_holds
+>>> [find_free(6, (2, 3), (3, 2)), find_free(6, (2, 3), (1, 3))[0], free_holds(4, (2,), (3,), ("meet", (-2,)))]
+[('free', (0, 3, 2, 5, 4, 1)), 'meet', True]
+""",
+    51: """
+>>> from wirebeats.clusters import greatest_sides, tight_sides
+>>> [tight_sides(6, (2, 3)), tight_sides(5, (1, 2)), greatest_sides(5, (1, 2))]
+[((3, 2),), ((1, 5), (5, 1)), ((1, 5), (2, 2), (5, 1))]
+""",
+    52: """
+>>> from wirebeats.clusters import worker
+>>> [worker(6, (2, 3), (3, 2), 0, (1, 0), 5), worker(6, (2, 3), (2, 2), 1, (0, 0), 5)]
+[(4, 1), None]
+""",
+    53: """
+>>> from wirebeats.clusters import box_meeting, meeting_points
+>>> R = ((1, -1),)
+>>> [meeting_points((2, 1), R, (4,), (3,)), box_meeting((2, 1), R, (4,), (4, 3))]
+[((0, 0), (1, -2)), ((2, 2), (3, 0))]
+""",
+    59: """
+>>> from wirebeats.hops import hops_error, relayed
+>>> G = (2, (("neg", (0, (1, 2))),))
+>>> [relayed(G, 0, 0, ((1, 0), (0, 1), (0, 1))), hops_error((1, 2), ((2, 0), (-1, 2)))]
+[(2, (('neg', (2, (0, 1))), ('copy', (0, (1, 0))), ('copy', (1, (0, 1))))), (0, 'hop')]
+""",
+    60: """
+>>> from wirebeats.hops import relayed_beats, relayed_outside
+>>> G, H = (2, (("neg", (0, (1, 1))),)), ((1, 0), (0, 1))
+>>> [relayed_beats(G, ((1, 1), (0,)), 0, 0, H), relayed_outside(G, (2, 2), ((0, (-1, -1), 5), (0, (-1, 0), 6), (0, (0, -1), 7)), 0, 0, H)]
+[((1, 1), (0, 0)), ((0, (-1, -1), 5), (0, (-1, 0), 6), (0, (0, -1), 7), (1, (0, -1), 5), (1, (1, -1), 7))]
 """,
     61: """
 >>> from wirebeats.flowtexts import beats_text, numbers_text, vector_text

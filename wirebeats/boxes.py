@@ -35,6 +35,14 @@ def points_of(box):
     return tuple(grid((0,) * len(box), last))
 
 
+def products_of(box, vector):
+    """The list of the products of the vector and the points of a small box, in the ascending order of the points."""
+    products = [0]
+    for size, item in zip(box, vector):
+        products = [product + item * at for product in products for at in range(size)]
+    return products
+
+
 def is_point(box, value):
     if not is_tuple_of(len(box), value):
         return False

@@ -4,7 +4,7 @@ from wirebeats.boxes import count_points, is_point
 from wirebeats.counts import count_lines, count_staying
 from wirebeats.directions import check_direction, is_some_direction
 from wirebeats.errors import BadDirection, NoIndex, NoPoint
-from wirebeats.vectors import is_far, is_within, moved_by, steps_inside
+from wirebeats.vectors import is_far, is_within, moved_by, steps_inside, times_in
 
 
 def check_point(box, point):
@@ -28,8 +28,7 @@ def steps_between(direction, point, other):
     for vector in (point, other):
         if not is_far(len(direction), vector):
             raise NoPoint(vector)
-    counts = [(there - here) // move for here, there, move in zip(point, other, direction) if move != 0]
-    return counts[0] if moved_by(point, counts[0], direction) == other else None
+    return times_in(direction, moved_by(other, -1, point))
 
 
 def edge_of(size, move):

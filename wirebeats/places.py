@@ -46,6 +46,14 @@ def canonical_rows(direction):
     return flat_rows(direction) if len(direction) == 2 else deep_rows(direction)
 
 
+def direction_of(rows):
+    """One of the two opposite directions of which these are place rows."""
+    if len(rows) == 1:
+        return (rows[0][1], -rows[0][0])
+    (a, b, c), (d, e, f) = rows
+    return (b * f - c * e, c * d - a * f, a * e - b * d)
+
+
 def check_rows(direction, matrix):
     """Raise BadDirection if this is no direction for so many rows."""
     if not is_some_direction(direction) or len(matrix) != len(direction) - 1:

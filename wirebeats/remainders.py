@@ -2,7 +2,7 @@
 
 from wirebeats.directions import period
 from wirebeats.errors import Flat
-from wirebeats.places import check_place, check_rows, lift_of
+from wirebeats.places import check_place, check_rows, direction_of, lift_of
 from wirebeats.vectors import combined, dot, moved_by
 
 
@@ -19,6 +19,12 @@ def remainders(weights, direction, rows):
     """What one step of each item of a place adds to the beats, modulo the period."""
     every = working_period(weights, direction, rows)
     return tuple([dot(weights, vector) % every for vector in lift_of(rows)])
+
+
+def rhythm_of(weights, rows):
+    """A direction of which these are place rows, its period, which is not 0, and its remainders."""
+    direction = direction_of(rows)
+    return (direction, period(weights, direction), remainders(weights, direction, rows))
 
 
 def works_at(weights, direction, rows, place, beat):

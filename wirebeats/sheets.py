@@ -5,6 +5,7 @@ equally many items apart, and nothing needs to be asked about a point when its w
 """
 
 from wirebeats.bounds import MAX_DIST, MODULUS
+from wirebeats.boxes import products_of
 
 
 def strides_of(box):
@@ -26,15 +27,19 @@ def apart(strides, vector):
 
 def addresses_of(box, strides):
     """The list of the addresses, which are indexes in a sheet, of the points in ascending order."""
-    addresses = [MAX_DIST * sum(strides)]
-    for size, stride in zip(box, strides):
-        addresses = [address + stride * item for address in addresses for item in range(size)]
-    return addresses
+    first = MAX_DIST * sum(strides)
+    return [first + product for product in products_of(box, strides)]
+
+
+def many_of(box, strides):
+    """The number of all items of a sheet."""
+    return strides[0] * (box[0] + 2 * MAX_DIST)
 
 
 def sheets_of(flow, box, strides, outside):
     """The sheets of all planes, with the words of the outside and 0 for all others."""
-    sheets = [[0] * (strides[0] * (box[0] + 2 * MAX_DIST)) for _ in flow[1]]
+    many = many_of(box, strides)
+    sheets = [[0] * many for _ in flow[1]]
     first = MAX_DIST * sum(strides)
     for plane, vector, word in outside:
         # What is further away is read by no point.
@@ -60,11 +65,8 @@ def laid_out(flow, box, outside):
 def rounds_of(box, beats, addresses):
     """The ascending list of (beat, plane, addresses of the points at which the plane works at this beat)."""
     weights, starts = beats
-    levels = [0]
-    for size, weight in zip(box, weights):
-        levels = [level + weight * item for level in levels for item in range(size)]
     groups = {}
-    for level, address in zip(levels, addresses):
+    for level, address in zip(products_of(box, weights), addresses):
         if level not in groups:
             groups[level] = []
         groups[level].append(address)

@@ -59,6 +59,12 @@ def combined(counts, vectors):
     return total
 
 
+def times_in(direction, vector):
+    """The integer k for which the vector is k * direction, or None; the direction is not all 0."""
+    many = [item // move for item, move in zip(vector, direction) if move != 0][0]
+    return many if vector == tuple([many * move for move in direction]) else None
+
+
 def unit_vectors(dims):
     """The vectors with a single item other than 0, which is 1."""
     return tuple([(0,) * at + (1,) + (0,) * (dims - 1 - at) for at in range(dims)])

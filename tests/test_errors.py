@@ -65,7 +65,16 @@ INTERFACE = {
                    "next_beat(weights, direction, rows, place, beat)"],
     "runs": ["field_of(box, weights, direction, rows)", "feeds_of(outside, beats, rows)", "run(array, field, feeds)",
              "state_at(array, field, feeds, beat)", "go_on(array, field, feeds, state, beat)"],
+    "slowing": ["find_factor(flow, weights)", "factor_holds(flow, weights, value)", "find_ratio(flow, weights)",
+                "ratio_holds(flow, weights, value)"],
+    "spans": ["span_of(flow, timing, box, *planes)"],
     "starts": ["find_starts(flow, weights)", "starts_hold(flow, weights, value)"],
+    "strips": ["moves_of(steps, sides)", "find_order(steps, sides)", "order_holds(steps, sides, value)",
+               "blocks_of(rows, sides, box)", "find_plan(flow, rows, sides, box)",
+               "plan_holds(flow, rows, sides, box, value)",
+               "strip_words(flow, beats, rows, sides, box, outside, blocks)",
+               "kept_words(flow, rows, sides, box, blocks)"],
+    "waiting": ["waiting_of(flow, timing)", "find_waiting(flow, weights)", "waiting_holds(flow, weights, value)"],
     "ways": ["is_way(flow, value)", "is_ring(flow, value)", "need_of(flow, weights, way)", "way_to(flow, plane, other)",
              "rings_of(flow)"],
     "words": ["outside_error(flow, box, value)", "each_word(flow, beats, box, outside)",
@@ -77,6 +86,8 @@ CLASSES = {
     "Flow": ("words", ["Flow(value)", "of(dims, *rules)"], []),
     "Array": ("alike", ["Array(value)", "of(flow, beats, direction, rows)"], ["period"]),
     "Lines": ("lineobjects", ["Lines(direction)", "through(point, other)"], ["along", "rows"]),
+    "Beats": ("timings", ["Beats(flow, value)", "least(flow, weights)"], ["starts"]),
+    "Shell": ("shells", ["Shell(bench)", "fed(bench, *values)", "execute(value)", "transcript()"], ["last"]),
     "Bench": ("benches", ["Bench(flow, weights, direction)", "put(rule)", "drop()", "change(plane, rule)", "weigh(weights)",
                           "aim(direction)", "undo()", "edits()", "flow_at(*, version=None)", "weights_at(*, version=None)",
                           "direction_at(*, version=None)", "starts_at(*, version=None)", "array_at(*, version=None)",
@@ -113,6 +124,10 @@ class Errors(unittest.TestCase):
                 self.assertEqual(error.__dict__, {field: at for at, field in enumerate(names)})
                 self.assertRaises(TypeError, getattr(errors, name))
                 self.assertRaises(TypeError, getattr(errors, name), *range(len(names) + 1))
+
+    def test_messages_are_names(self):
+        for name, fields in FIELDS.items():
+            self.assertEqual(str(getattr(errors, name)(*range(len(fields.split())))), name)
 
     def test_shown_as_in_the_document(self):
         self.assertEqual(repr(errors.NoPlane(9)), "NoPlane(9)")

@@ -68,12 +68,40 @@ EXAMPLES = {
 >>> [find_starts(G, (2, 0)), find_starts(G, (1, 5)), starts_hold(G, (2, 0), ("starts", (-3, -4)))]
 [('starts', (1, 0)), ('ring', ((0, 0), (1, 0))), True]
 """,
+    19: """
+>>> from wirebeats.slowing import find_factor, find_ratio
+>>> G = (2, (("copy", (1, (0, 0))), ("neg", (0, (1, 0)))))
+>>> [find_factor(G, (1, 5)), find_factor(G, (0, 5)), find_ratio(G, (1, 5))[:3]]
+[('factor', 2, (1, 0), ((0, 0), (1, 0))), ('never', ((0, 0), (1, 0))), ('ratio', 2, 1)]
+""",
+    20: """
+>>> from wirebeats.spans import span_of
+>>> H = (2, (("copy", (0, (0, 1))), ("copy", (1, (1, 0))), ("madd", (2, (1, 1)), (0, (0, 0)), (1, (0, 0)))))
+>>> T = ((1, 1), (0, 0, 1))
+>>> [span_of(H, T, (3, 4)), span_of(H, T, (10 ** 9, 4), 2)]
+[(0, 6, 7), (1, 1000000003, 1000000003)]
+""",
+    21: """
+>>> from wirebeats.waiting import find_waiting, waiting_holds, waiting_of
+>>> H = (2, (("copy", (0, (0, 1))), ("copy", (1, (1, 0))), ("madd", (2, (1, 1)), (0, (0, 0)), (1, (0, 0)))))
+>>> [find_waiting(H, (1, 1))[0], waiting_of(H, ((1, 1), (0, 0, 3))), waiting_holds(H, (1, 1), (6, (2, 2, 3), ((0,), (0,), (0, 1, 1))))]
+[6, 10, True]
+""",
     22: """
 >>> from wirebeats.chains import find_ranks, longest_chain
 >>> F = (2, (("add", (0, (1, 0)), (0, (0, 1))),))
 >>> S = (2, (("add", (0, (1, -1)), (0, (-1, 1))),))
 >>> [find_ranks(F, (2, 2)), find_ranks(S, (1, 3)), find_ranks(S, (2, 2))[0], len(longest_chain(F, (2, 3)))]
 [('ranks', ((0, 1, 1, 2),)), ('ranks', ((0, 0, 0),)), 'loop', 4]
+""",
+    24: """
+>>> from wirebeats.timings import Beats
+>>> G = (2, (("copy", (1, (0, 0))), ("neg", (0, (1, 0)))))
+>>> one = Beats(G, ((5, 0), (3, 0)))
+>>> [one.delays, one(1, (2, 9)), (one + 4).starts, str(one)]
+[((3,), (2,)), 10, (7, 4), '5,0 3 0']
+>>> (one & Beats(G, ((5, 0), (2, 1)))).starts
+(2, 0)
 """,
     26: """
 >>> from wirebeats.directions import between, directions, is_direction, period
@@ -212,6 +240,27 @@ EXAMPLES = {
 >>> [meeting_points((2, 1), R, (4,), (3,)), box_meeting((2, 1), R, (4,), (4, 3))]
 [((0, 0), (1, -2)), ((2, 2), (3, 0))]
 """,
+    55: """
+>>> from wirebeats.strips import find_order, moves_of
+>>> [moves_of(((1, -1), (0, 0)), (2, 2)), moves_of(((3, 1),), (2, 2))]
+[((0, -1), (1, -1), (1, 0)), ((1, 0), (1, 1), (2, 0), (2, 1))]
+>>> [find_order(((4,), (0,)), (3,))[0], find_order(((1,), (-2,)), (3,))[0]]
+['order', 'ring']
+""",
+    56: """
+>>> from wirebeats.strips import blocks_of, find_plan
+>>> R = ((1, 0),)
+>>> G = (2, (("add", (0, (1, 1)), (0, (-1, 1))),))
+>>> [blocks_of(R, (2,), (3, 2)), find_plan((2, (("add", (0, (1, 0)), (0, (0, 1))),)), R, (2,), (3, 2)), find_plan(G, R, (1,), (2, 2))[0]]
+[((0,), (1,)), ('plan', ((0,), (1,))), 'ring']
+""",
+    57: """
+>>> from wirebeats.strips import kept_words, strip_words
+>>> F = (2, (("add", (0, (1, 0)), (0, (0, 1))),))
+>>> B, R = ((1, 1), (0,)), ((1, 0),)
+>>> [strip_words(F, B, R, (2,), (3, 2), ((0, (-1, 0), 1),), ((0,), (1,))), kept_words(F, R, (2,), (3, 2), ((0,), (1,)))]
+[((1, 1, 1, 2, 1, 3),), (2,)]
+""",
     59: """
 >>> from wirebeats.hops import hops_error, relayed
 >>> G = (2, (("neg", (0, (1, 2))),))
@@ -246,6 +295,13 @@ EXAMPLES = {
 >>> bench = Bench((2, (("neg", (0, (1, 0))),)), (1, 2), (0, 1))
 >>> [bench((2, 1), ((0, (-1, 0), 5),)), bench.period, bool(bench), bench.weigh((-1, 2)), bool(bench), str(bench)]
 [((65516, 5),), 2, True, 1, False, '1 planes, 1 reads, period 2, 1 edits']
+""",
+    72: """
+>>> from wirebeats.benches import Bench
+>>> from wirebeats.shells import Shell
+>>> shell = Shell(Bench((2, (("neg", (0, (1, 0))),)), (1, 2), (0, 1)))
+>>> [shell("put add 1@0,1 0@0,0"), shell("put neg 4@0,0"), shell("starts"), shell("run 2,1 0@-1,0:5"), shell("aim 2,4")]
+['ok 1', 'error BadRule', '0 1', '65516 5 / 65516 5', 'error BadDirection']
 """,
 }
 

@@ -290,7 +290,12 @@ class Language(unittest.TestCase):
         for path, tree in trees():
             for node in ast.walk(tree):
                 if isinstance(node, ast.Try):
-                    self.assertEqual([handler.type.id for handler in node.handlers], ["WireError"] * len(node.handlers), path)
+                    for handler in node.handlers:
+                        self.assertIn(handler.type.id, ("WireError", "NoStarts"), path)
+                        named = [part for part in ast.walk(handler) if isinstance(part, ast.Name) and part.id == handler.name]
+                        asked = [part.value for part in ast.walk(handler)
+                                 if isinstance(part, ast.FormattedValue) or isinstance(part, ast.Attribute) and part.attr != "args"]
+                        self.assertTrue(all(any(part is value for value in asked) for part in named), path)
                     for line in node.finalbody:
                         self.assertIsInstance(line, ast.Assign, path)
                         self.assertIsInstance(line.value, (ast.Name, ast.Attribute, ast.Constant), path)

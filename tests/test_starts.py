@@ -4,7 +4,7 @@ import itertools
 import random
 import unittest
 
-from support import ODD, Case, all_vectors, ask, damaged, dot, is_int, some_flow, some_vector
+from support import KINDS, ODD, Case, all_vectors, ask, damaged, dot, is_int, some_flow, some_vector
 from test_ways import are_ways, plain_rings, reads, source
 
 from wirebeats.beats import beats_error
@@ -105,6 +105,79 @@ class FindStarts(Case):
         self.same(ask(find_starts, (2, six), (1, -1)), ("ring", tuple((k, 0) for k in range(6))))
         self.same(ask(find_starts, (2, six), (0, 6)), ("starts", (1, 2, 3, 4, 5, 0)))
         self.same(ask(find_starts, (2, six), (0, 5)), ("ring", tuple((k, 0) for k in range(6))))
+
+
+class Rings(Case):
+    """Where there are no starts, a plain ring with a need above 0 is told."""
+
+    def check(self, flow, weights):
+        """The number of reads of the ring that is told, 0 if there are starts."""
+        found = ask(find_starts, flow, weights)
+        bad = [ring for ring in plain_rings(flow) if need(flow, weights, ring) > 0]
+        self.assertEqual(found[0], "ring" if bad else "starts")
+        if not bad:
+            self.same(found, ("starts", least(flow, weights)))
+            return 0
+        ring = found[1]
+        planes = [plane for plane, _ in ring]
+        self.assertTrue(type(ring) is tuple and all(type(read) is tuple for read in ring))
+        self.assertTrue(are_ways(flow, ring)[1])
+        self.assertEqual((len(set(planes)), planes[0]), (len(planes), min(planes)))
+        self.assertGreater(need(flow, weights, ring), 0)
+        self.assertIs(ask(starts_hold, flow, weights, found), True)
+        return len(ring)
+
+    def some_ring(self, rng, dims, planes, many):
+        """A flow in which one ring of so many planes, in any order, has a need above 0, and perhaps others."""
+        order = rng.sample(range(planes), many)
+        after = {plane: order[at - 1] for at, plane in enumerate(order)}
+        rules = []
+        for plane in range(planes):
+            kind = rng.choice(sorted(KINDS))
+            # The other planes read the ring, or one another, so that they are on no ring or on longer ones.
+            source_told = after.get(plane, rng.choice([order[0], max(0, plane - 1)]))
+            reads_told = [(source_told, tuple(rng.choice((0, 0, 1, -1)) for _ in range(dims))) for _ in range(KINDS[kind])]
+            if len(reads_told) > 1 and rng.random() < 0.3:
+                reads_told[rng.randrange(len(reads_told))] = (rng.randrange(planes), (4,) * dims)
+            rules.append((kind, *reads_told))
+        return (dims, tuple(rules))
+
+    def test_rings_of_one_to_six_reads(self):
+        rng = random.Random(118)
+        found = []
+        for planes in range(1, 7):
+            for many in range(1, planes + 1):
+                for at in range(12):
+                    flow = self.some_ring(rng, 2 + at % 2, planes, many)
+                    for weights in (some_vector(rng, flow[0], 60), some_vector(rng, flow[0], 1), (0,) * flow[0], (3,) * flow[0]):
+                        found.append(self.check(flow, weights))
+        for many in range(7):
+            self.assertGreater(found.count(many), 15, many)
+
+    def test_many_rings(self):
+        """The flows with the most plain rings, where all of them bar, only some, only one, or none."""
+        one = (2, tuple(("madd", *[((k + 5) % 6, (1, 0)) for _ in range(3)]) for k in range(6)))
+        two = (2, tuple(("madd", *[((k + j) % 6, (1, 0)) for j in range(3)]) for k in range(6)))
+        for flow in (one, two):
+            for weights in ((0, 2), (0, 0), (-1, 5), (-60, 60), (1, -7), (60, 0)):
+                self.assertEqual(self.check(flow, weights) > 0, weights[0] < 1)
+        rng = random.Random(119)
+        for _ in range(12):
+            # Each plane has one read with a gain below the others, and the ring of these just bars, or just does not.
+            lows = [rng.randrange(3) for _ in range(6)]
+            for gains in ((6, 0, 0, 0, 0, 0), (5, 0, 0, 0, 0, 0), (4, 4, -1, -1, 0, 0), (4, 4, -1, -1, -1, 0)):
+                rules = tuple(("madd", *[((k + 5) % 6, (gains[k] // 2, gains[k] % 2) if j == lows[k] else (4, 0)) for j in range(3)])
+                              for k in range(6))
+                self.assertEqual(self.check((2, rules), (2, 1)), 6 if sum(gains) < 6 else 0)
+
+    def test_all_kinds_and_weights(self):
+        rng = random.Random(120)
+        found = []
+        for at in range(150):
+            flow = some_flow(rng, 2 + at % 2, 1 + at % 6, rng.choice((1, 4)))
+            weights = tuple(rng.choice((0, item)) for item in some_vector(rng, flow[0], rng.choice((1, 60))))
+            found.append(self.check(flow, weights))
+        self.assertGreater(len(set(found)), 4)
 
 
 class StartsHold(Case):

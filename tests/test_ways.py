@@ -1,5 +1,6 @@
 """Promise 17: ways and rings."""
 
+import functools
 import itertools
 import random
 import unittest
@@ -43,6 +44,7 @@ def some_way(rng, flow, many):
     return tuple(way)
 
 
+@functools.lru_cache(maxsize=64)
 def plain_rings(flow):
     """All plain rings: each order of each set of planes with the least one first, with all operands."""
     rings = []

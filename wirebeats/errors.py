@@ -2,7 +2,10 @@
 
 
 class WireError(ValueError):
-    """What all errors of the package are."""
+    """What all errors of the package are. The message of an error is its name."""
+
+    def __str__(self):
+        return str(self.__class__.__name__)
 
 
 class BadArray(WireError):

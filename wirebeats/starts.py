@@ -3,32 +3,69 @@
 from wirebeats.beats import beats_error, check_weights
 from wirebeats.flows import reads_of
 from wirebeats.vectors import dot, is_tuple_of
-from wirebeats.ways import is_ring, need_of, rings_of
+from wirebeats.ways import is_ring, need_of
 
 
-def least_starts(flow, weights):
-    """The least starts from 0 on, or None if no starts suffice."""
-    planes = len(flow[1])
-    starts = [0 for _ in range(planes)]
+def links_of(flow, weights, whole, many):
+    """The list of all reads as links (plane, source, rise, read): the rise is whole less so many times the gain."""
+    links = []
+    for plane, operand, source, distance in reads_of(flow):
+        links.append((plane, source, whole - many * dot(weights, distance), (plane, operand)))
+    return links
+
+
+def ring_behind(by, plane):
+    """The ring of links to which one comes from a plane, back by the links that have raised each plane."""
+    # After so many steps back one is on the ring.
+    for _ in by:
+        plane = by[plane][1]
+    ring = [by[plane]]
+    while ring[-1][1] != plane:
+        ring.append(by[ring[-1][1]])
+    return ring[::-1]
+
+
+def raised(planes, links):
+    """(heights, None) with the least heights from 0 on, or (None, ring) if there are none.
+
+    By each link the height of the plane is at least that of the source and the rise. A ring, which has its links in
+    the order of a way, bars this if its rises sum to more than 0.
+    """
+    heights = [0 for _ in range(planes)]
+    by = [None for _ in range(planes)]
+    last = None
     # A way without a plane twice has fewer reads than there are planes, so the last round raises nothing
-    # unless the need of a ring is above 0.
+    # unless there is such a ring.
     for _ in range(planes):
-        before = list(starts)
-        for plane, _, source, distance in reads_of(flow):
-            starts[plane] = max(starts[plane], starts[source] + 1 - dot(weights, distance))
-        if starts == before:
-            return tuple(starts)
-    return None
+        last = None
+        for link in links:
+            plane, source, rise, _ = link
+            height = heights[source] + rise
+            if height > heights[plane]:
+                heights[plane] = height
+                by[plane] = link
+                last = plane
+        if last is None:
+            return (tuple(heights), None)
+    return (None, ring_behind(by, last))
+
+
+def heights_for(flow, weights, whole, many):
+    """The heights for the reads with such rises, or a plain ring that bars them, as raised tells them."""
+    heights, ring = raised(len(flow[1]), links_of(flow, weights, whole, many))
+    if ring is None:
+        return (heights, None)
+    reads = [link[3] for link in ring]
+    # Its reads have different planes, so the least read is the one of the least plane.
+    at = reads.index(min(reads))
+    return (None, tuple(reads[at:] + reads[:at]))
 
 
 def find_starts(flow, weights):
     """The least starts from 0 on, or a plain ring whose need is above 0."""
     check_weights(flow[0], weights)
-    starts = least_starts(flow, weights)
-    if starts is not None:
-        return ("starts", starts)
-    rings = [ring for ring in rings_of(flow) if need_of(flow, weights, ring) > 0]
-    return ("ring", rings[0])
+    starts, ring = heights_for(flow, weights, 1, 1)
+    return ("starts", starts) if ring is None else ("ring", ring)
 
 
 def starts_hold(flow, weights, value):

@@ -30,9 +30,13 @@ def is_ring(flow, value):
     return read_told(flow, value[0])[0] == value[-1][0]
 
 
+def gains_of(flow, weights, way):
+    return sum([dot(weights, read_told(flow, read)[1]) for read in way])
+
+
 def need_of(flow, weights, way):
     """The length of the way less its gains."""
-    return sum([1 - dot(weights, read_told(flow, read)[1]) for read in way])
+    return len(way) - gains_of(flow, weights, way)
 
 
 def way_to(flow, plane, other):

@@ -72,6 +72,11 @@ def words_of(flow, beats, box, outside):
     """For each plane, the tuple of the words at all points of a small box, ascending by points."""
     check_small(box)
     check_outside(flow, box, outside)
+    return words_made(flow, beats, box, outside)
+
+
+def words_made(flow, beats, box, outside):
+    """What words_of returns, for a box and an outside that are right."""
     addresses, makers = laid_out(flow, box, outside)
     # Every delay is at least 1, so what is read within the box has been made in an earlier round.
     for _, plane, working in rounds_of(box, beats, addresses):

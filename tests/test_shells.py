@@ -350,7 +350,7 @@ class Unknown(Case):
                       "put copy 0@0,0 0@0,0", "put madd 0@0,0 0@0,0", "put mad 0@0,0", "put Neg 0@1,0", "put (0, (1, 0))", "change neg 0@1,0",
                       "change 0 0 neg 0@1,0", "change -1 neg 0@1,0", "put neg -1@1,0", "run 2,1 -1@0,-1:5", "run 2,1 0@-1,0:-5", "transcript",
                       "run 2,1 0@-1,0:5,6", "run 2,1 0@-1,0", "run 2,1 0:5", "run 2,1 5", "run 2,1 0@-1,0:5 ", "run 0@-1,0:5", "beats 2,1 0",
-                      "processors 2,1 3,4", "weigh 1 2", "aim (0,1)", "last", "copy", "attempt", "put/neg 0@1,0", "flow\nflow", "flow;", "put neg 0@1;0"):
+                      "processors 2,1 3,4", "beats 2,1 0@-1,0:5", "processors 2,1 0@-1,0:5", "weigh 1 2", "aim (0,1)", "last", "copy", "attempt", "put/neg 0@1,0", "flow\nflow", "flow;", "put neg 0@1;0"):
             self.check(told, value)
         self.check(told, "run 2,1" + " " * 9990)
         self.check(told, "x" * 10000)

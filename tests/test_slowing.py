@@ -236,6 +236,14 @@ class Ratios(Case):
         self.same([find_factor(G, (1, 5)), find_factor(G, (0, 5)), find_ratio(G, (1, 5))[:3]],
                   [("factor", 2, (1, 0), ((0, 0), (1, 0))), ("never", ((0, 0), (1, 0))), ("ratio", 2, 1)])
 
+    def test_rings_without_gains_have_no_ratio(self):
+        ring = ((0, 0), (1, 0))
+        for weights in ((0, 5), (-1, 5), (1, 5)):
+            for length, given in ((1, 0), (0, 1), (0, 0), (2, 0), (-1, 0), (-2, 1), (2, -1), (-2, -1), (1, True), (True, 0)):
+                for heights in ((0, 0), (0, -1), (10 ** 6, 10 ** 6)):
+                    self.assertIs(ask(ratio_holds, G, weights, ("ratio", length, given, ring, heights)), False)
+        self.assertIs(ask(ratio_holds, G, (1, 5), ("ratio", 2, 1, ring, (1, 0))), True)
+
     def test_served_flows_have_the_factor_one(self):
         rng = random.Random(256)
         for at in range(60):

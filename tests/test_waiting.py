@@ -4,7 +4,7 @@ import itertools
 import random
 import unittest
 
-from support import ODD, Case, ask, damaged, dot, is_int, some_flow, some_vector, variants
+from support import KINDS, ODD, Case, ask, damaged, dot, is_int, some_flow, some_vector, variants
 from test_starts import some_cases
 from test_ways import plain_rings, reads, source
 
@@ -120,6 +120,22 @@ class Least(Case):
         late = (2, (("neg", (0, (1, 0))), ("copy", (0, (4, 0))), ("add", (1, (0, 0)), (0, (4, 0)))))
         self.check(late, (5, 0))
         self.same(find_waiting(H, (1, 1))[0], 6)
+
+    def test_shares_that_change_by_more_than_one(self):
+        one = (("add", (2, (0, 1)), (1, (4, 0))), ("copy", (1, (4, 1))), ("madd", (1, (1, 0)), (1, (2, 0)), (2, (3, 1))),
+               ("madd", (2, (0, 0)), (0, (0, 1)), (1, (4, 1))))
+        other = (("madd", (2, (3, 1)), (2, (1, 1)), (4, (0, 1))), ("copy", (0, (0, 0))), ("copy", (4, (3, 0))),
+                 ("madd", (0, (3, 0)), (1, (1, 0)), (2, (2, 0))), ("madd", (2, (2, 0)), (2, (1, 0)), (2, (1, 0))),
+                 ("add", (1, (2, 0)), (2, (3, 1))))
+        self.check((2, one), (12, 0))
+        self.check((2, other), (8, 0))
+        rng = random.Random(276)
+        for _ in range(400):
+            planes = rng.randint(2, 6)
+            rules = tuple((kind, *[(rng.randrange(planes), (rng.randint(0, 4), rng.randint(0, 1))) for _ in range(KINDS[kind])])
+                          for kind in [rng.choice(("madd", "madd", "add", "copy")) for _ in range(planes)])
+            if find_starts((2, rules), (9, 1))[0] == "starts":
+                self.check((2, rules), (9, 1))
 
     def test_errors(self):
         for weights in ODD + ((1, 61), (1, -61), (1, 2, 3), (True, 1), [1, 1]):

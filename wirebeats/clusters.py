@@ -100,8 +100,8 @@ def tight_sides(cycle, remainders):
     """The ascending tuple of all tight sides."""
     if len(remainders) == 1:
         return ((cycle,),) if greatest_side(cycle, remainders[0]) == cycle else ()
-    pairs = enumerate(second_sides(cycle, remainders), start=1)
-    return tuple([(first, second) for first, second in pairs if first * second == cycle])
+    seconds = second_sides(cycle, remainders)
+    return tuple([(first, second) for first, second in enumerate(seconds, start=1) if first * second == cycle])
 
 
 def greatest_sides(cycle, remainders):
@@ -109,8 +109,11 @@ def greatest_sides(cycle, remainders):
     if len(remainders) == 1:
         return ((greatest_side(cycle, remainders[0]),),)
     seconds = second_sides(cycle, remainders)
-    pairs = enumerate(zip(seconds, seconds[1:] + [0]), start=1)
-    return tuple([(first, second) for first, (second, behind) in pairs if behind < second])
+    sides = []
+    for first, (second, behind) in enumerate(zip(seconds, seconds[1:] + [0]), start=1):
+        if behind < second:
+            sides.append((first, second))
+    return tuple(sides)
 
 
 def worker(cycle, remainders, sides, start, block, beat):

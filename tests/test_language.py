@@ -66,6 +66,45 @@ def called_names(function):
             yield node.attr
 
 
+def stored_names():
+    """The names of all attributes that some class of the package stores."""
+    return {node.attr for _, tree in trees() for node in ast.walk(tree)
+            if isinstance(node, ast.Attribute) and isinstance(node.ctx, ast.Store)}
+
+
+def is_property(method):
+    return "property" in [getattr(mark, "id", "") for mark in method.decorator_list]
+
+
+def run_by_operators():
+    """The operators and properties of the package, and all functions and methods that they may run."""
+    functions = all_functions()
+    begun = [method for _, tree in trees() for _, method in methods_of(tree) if method.name in OPERATORS or is_property(method)]
+    seen = []
+    while begun:
+        function = begun.pop()
+        if any(function is other for other in seen):
+            continue
+        seen.append(function)
+        for name in called_names(function):
+            begun.extend(functions.get(name, []))
+    return seen
+
+
+def held_calls(function, held):
+    """The calls in a function of what it was passed or holds: by a name of its own, by an attribute, or by an item."""
+    own = {name for name, _ in bound_names(function)} - {function.name}
+    for node in ast.walk(function):
+        if not isinstance(node, ast.Call):
+            continue
+        if isinstance(node.func, ast.Name):
+            wrong = node.func.id in own
+        else:
+            wrong = not isinstance(node.func, ast.Attribute) or node.func.attr in held
+        if wrong:
+            yield ast.unparse(node)
+
+
 def is_fresh(value):
     """Whether an expression makes a list or a dict of its own."""
     if isinstance(value, ast.Call):
@@ -262,29 +301,32 @@ class Language(unittest.TestCase):
             self.assertFalse(stored & METHODS - {"index"}, path)
 
     def test_no_property_is_stored(self):
-        properties = {method.name for _, tree in trees() for _, method in methods_of(tree)
-                      if "property" in [getattr(mark, "id", "") for mark in method.decorator_list]}
-        stored = {node.attr for _, tree in trees() for node in ast.walk(tree)
-                  if isinstance(node, ast.Attribute) and isinstance(node.ctx, ast.Store)}
+        properties = {method.name for _, tree in trees() for _, method in methods_of(tree) if is_property(method)}
         self.assertLessEqual({"period", "starts"}, properties)
-        self.assertEqual(properties & stored, set())
+        self.assertEqual(properties & stored_names(), set())
 
     def test_what_operators_and_properties_run_changes_nothing(self):
-        functions = all_functions()
-        begun = [method for _, tree in trees() for _, method in methods_of(tree)
-                 if method.name in OPERATORS or "property" in [getattr(mark, "id", "") for mark in method.decorator_list]]
-        self.assertGreater(len(begun), 15)
-        seen = []
-        while begun:
-            function = begun.pop()
-            if any(function is other for other in seen):
-                continue
-            seen.append(function)
+        seen = run_by_operators()
+        self.assertGreater(len(seen), 40)
+        for function in seen:
             if function.name != "__init__":
                 self.assertEqual(list(changes_of(function)), [], function.name)
-            for name in called_names(function):
-                begun.extend(functions.get(name, []))
-        self.assertGreater(len(seen), 40)
+
+    def test_what_operators_and_properties_run_calls_nothing_held(self):
+        seen = run_by_operators()
+        names = {function.name for function in seen}
+        self.assertLessEqual({"__bool__", "__eq__", "__add__", "starts", "period", "find_starts", "heights_for", "raised"}, names)
+        held = stored_names()
+        self.assertLessEqual({"index", "word", "ring", "value", "_versions"}, held)
+        for function in seen:
+            self.assertEqual(list(held_calls(function, held)), [], function.name)
+
+    def test_calls_of_what_is_held_are_seen(self):
+        for line, calls in (("xs.index(min(xs))", ["xs.index(min(xs))"]), ("xs.count(1)", []), ("xs.ring", []), ("min(xs)", []),
+                            ("xs(1)", ["xs(1)"]), ("more(xs)", ["more(xs)"]), ("by(1)", ["by(1)"]), ("xs[0](1)", ["xs[0](1)"]),
+                            ("[x(1) for x in xs]", ["x(1)"]), ("self.index(1) + 1", ["self.index(1)"]), ("self(1)", ["self(1)"])):
+            function = ast.parse(f"def asked(self, xs, *more, by=1):\n    return {line}").body[0]
+            self.assertEqual(list(held_calls(function, {"index", "ring"})), calls)
 
     def test_tries(self):
         for path, tree in trees():

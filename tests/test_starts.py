@@ -8,7 +8,9 @@ from support import KINDS, ODD, Case, all_vectors, ask, damaged, dot, is_int, so
 from test_ways import are_ways, plain_rings, reads, source
 
 from wirebeats.beats import beats_error
-from wirebeats.errors import BadWeights
+from wirebeats.benches import Bench, ServedBench
+from wirebeats.errors import BadWeights, NoStarts
+from wirebeats.slowing import find_factor, find_ratio
 from wirebeats.starts import find_starts, starts_hold
 
 G = (2, (("copy", (1, (0, 0))), ("neg", (0, (1, 0)))))
@@ -178,6 +180,56 @@ class Rings(Case):
             weights = tuple(rng.choice((0, item)) for item in some_vector(rng, flow[0], rng.choice((1, 60))))
             found.append(self.check(flow, weights))
         self.assertGreater(len(set(found)), 4)
+
+
+class FirstRead(Case):
+    """A ring begins with the read of its least plane, wherever the search has come upon it."""
+
+    def one_ring(self, order, operands):
+        """A flow of six planes whose only ring has the planes in this order, by these operands, without gains.
+
+        The other operands read the same plane by greater gains; the planes that are not on the ring read it.
+        """
+        after = {plane: order[at - 1] for at, plane in enumerate(order)}
+        rules = []
+        for plane in range(6):
+            read, other = ((after.get(plane, order[0]), distance) for distance in ((0, 0), (4, 4)))
+            rules.append(("madd", *[read if operand == operands[plane] else other for operand in range(3)]))
+        return (2, tuple(rules))
+
+    def orders(self):
+        rng = random.Random(121)
+        for many in range(1, 7):
+            for order in itertools.permutations(range(6), many):
+                operands = [rng.randrange(3) for _ in range(6)]
+                at = order.index(min(order))
+                ring = tuple((plane, operands[plane]) for plane in order[at:] + order[:at])
+                yield self.one_ring(order, operands), ring
+
+    def test_all_orders(self):
+        for flow, ring in self.orders():
+            for weights in ((1, 2), (60, 60)):
+                self.same(find_starts(flow, weights), ("ring", ring), flow)
+                self.same(find_factor(flow, weights), ("never", ring), flow)
+                self.same(find_ratio(flow, weights), ("never", ring), flow)
+
+    def test_slow_rings(self):
+        """A ring with a gain of 1 in all, so that the weights serve if they are slowed by its length."""
+        for flow, ring in self.orders():
+            plane, operand = ring[-1]
+            rule = list(flow[1][plane])
+            rule[operand + 1] = (rule[operand + 1][0], (1, 0))
+            slow = (2, flow[1][:plane] + (tuple(rule),) + flow[1][plane + 1:])
+            factor = find_factor(slow, (1, 1))
+            self.same((factor[:2], factor[3]), (("factor", len(ring)), ring if len(ring) > 1 else None), slow)
+            self.same(find_ratio(slow, (1, 1))[:4], ("ratio", len(ring), 1, ring), slow)
+
+    def test_benches_tell_the_same_ring(self):
+        for flow, ring in list(self.orders())[::7]:
+            bench = Bench(flow, (1, 2), (0, 1))
+            self.same((bench.starts_at(), bench.array_at(), bool(bench)), (("ring", ring), ("ring", ring), False))
+            self.raises(NoStarts, {"ring": ring}, ServedBench, flow, (1, 2), (0, 1))
+            self.raises(NoStarts, {"ring": ring}, bench, (2, 2), ())
 
 
 class StartsHold(Case):

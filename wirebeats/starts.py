@@ -57,7 +57,7 @@ def heights_for(flow, weights, whole, many):
         return (heights, None)
     reads = [link[3] for link in ring]
     # Its reads have different planes, so the least read is the one of the least plane.
-    at = reads.index(min(reads))
+    _, at = min([(read, index) for index, read in enumerate(reads)])
     return (None, tuple(reads[at:] + reads[:at]))
 
 
